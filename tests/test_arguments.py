@@ -1,0 +1,174 @@
+"""[2] and the interface: names and places of arguments, lists for tuples, and that nothing handed in is changed."""
+
+import copy
+import importlib
+import inspect
+import unittest
+
+from giveways.errors import HouseError
+from giveways.houses import after
+from tests.made import built, listed, made_house, made_run
+
+INTERFACE = {
+    "houses": """begin(house), ready(house, state), next_step(house, state, task), turn(house, state, task),
+        states(house, choices), after(house, choices), is_run(house, thing), is_done(house, state),
+        is_whole(house, thing), told(house, choices), marks(house, choices), places_of(house, choices, task),
+        stand_of(state, task), diary_of(state, task), is_over(state, task), left_over(state), own_run(house),
+        run_by(house, row), gone_on(house, choices), rounds(house), longest_wait(house, choices),
+        who_waits(house, choices, many), is_fair(house, choices, many)""",
+    "scripts": """is_step(thing), is_script(thing), is_house(thing), task_names(house), queue_names(house),
+        signal_names(house), first_tasks(house), script_of(house, task), group_of(house, task),
+        step_of(house, task, number), shields_at(house, task, number), all_marks(house), starter_of(house, task),
+        host_of(house, group), tasks_in(house, group), closer_of(house, group), hosts_above(house, task),
+        room_of(house, queue), with_script(house, task, steps), with_step(house, task, number, step),
+        without_step(house, task, number), with_task(house, name, steps), without_task(house, task),
+        with_room(house, queue, room)""",
+}
+HOUSE = built({"a": [("start", "b"), ("put", "q"), ("get", "q", 4), ("close", "g")],
+               "b in g": [("in",), ("join", "c", ()), ("out",), ("fail", "w")], "c": [("set", "s"), ("hear", "s", ())]},
+              {"g": "a"}, {"q": 2})
+RUN = ("a", "a", "c", "b")
+WORTHS = {
+    "house": HOUSE, "state": after(HOUSE, RUN), "task": "b", "choices": RUN, "row": ("c", "b", "a"), "many": 0,
+    "number": 1, "group": "g", "queue": "q", "room": 3, "name": "z", "steps": (("get", "q", ()), ("join", "a", 2)),
+    "step": ("hear", "s", ()),
+}
+THINGS = {"is_run": RUN, "is_whole": RUN, "is_step": ("get", "q", ()), "is_script": (("give",),), "is_house": HOUSE}
+
+
+def functions():
+    """Each function of the interface with the names of its arguments."""
+    for module, text in INTERFACE.items():
+        for part in " ".join(text.split()).split("), "):
+            name, _, names = part.rstrip(")").partition("(")
+            yield importlib.import_module("giveways." + module), name, names.split(", ")
+
+
+def worths(name, names):
+    return [THINGS[name] if key == "thing" else WORTHS[key] for key in names]
+
+
+def result(function, *args, **more):
+    try:
+        return function(*args, **more)
+    except HouseError as error:
+        return (type(error).__name__, vars(error))
+
+
+class Interface(unittest.TestCase):
+    def test_names_and_places(self):
+        for module, name, names in functions():
+            function = getattr(module, name)
+            self.assertTrue(inspect.isfunction(function))
+            self.assertEqual(function.__module__, module.__name__, name)
+            parameters = inspect.signature(function).parameters
+            self.assertEqual(list(parameters), names, name)
+            for parameter in parameters.values():
+                self.assertIs(parameter.kind, inspect.Parameter.POSITIONAL_OR_KEYWORD)
+                self.assertIs(parameter.default, inspect.Parameter.empty)
+
+    def test_all_are_there(self):
+        self.assertEqual(len(list(functions())), 23 + 24)
+
+    def test_by_names_as_by_places(self):
+        for module, name, names in functions():
+            function, args = getattr(module, name), worths(name, names)
+            expected = result(function, *args)
+            self.assertEqual(result(function, **dict(zip(names, args))), expected, name)
+            self.assertEqual(result(function, **dict(list(zip(names, args))[::-1])), expected, name)
+            self.assertEqual(result(function, *args), expected, name)
+
+
+class Lists(unittest.TestCase):
+    def test_lists_for_tuples_at_any_depth(self):
+        for module, name, names in functions():
+            function, args = getattr(module, name), worths(name, names)
+            swapped = [arg if key == "thing" else listed(arg) for key, arg in zip(names, args)]
+            expected = result(function, *args)
+            told = result(function, *swapped)
+            self.assertEqual(told, expected, name)
+            self.assertEqual(listed(told), listed(expected))
+            self.assertEqual(repr(told), repr(expected), name)
+
+    def test_one_list_at_a_time(self):
+        def with_lists(worth):
+            if isinstance(worth, tuple):
+                yield list(worth)
+                for at, part in enumerate(worth):
+                    for other in with_lists(part):
+                        yield worth[:at] + (other,) + worth[at + 1:]
+        for module, name, names in functions():
+            function, args = getattr(module, name), worths(name, names)
+            expected = repr(result(function, *args))
+            for at, key in enumerate(names):
+                if key != "thing":
+                    for other in with_lists(args[at]):
+                        told = result(function, *args[:at], other, *args[at + 1:])
+                        self.assertEqual(repr(told), expected, (name, key, other))
+
+    def test_along_many_houses(self):
+        for number in range(60):
+            house = made_house(number)
+            run = made_run(house, number)
+            state = after(house, run[:3])
+            more = {"house": house, "state": state, "choices": run, "task": house[0][0][0],
+                    "row": tuple(row[0] for row in house[0])}
+            for module, name, names in functions():
+                args = [{**WORTHS, **more, "thing": run}[key] for key in names]
+                swapped = [arg if key == "thing" else listed(arg) for key, arg in zip(names, args)]
+                function = getattr(module, name)
+                self.assertEqual(repr(result(function, *swapped)), repr(result(function, *args)), name)
+
+
+class Unchanged(unittest.TestCase):
+    def test_no_call_changes_what_it_was_handed(self):
+        for module, name, names in functions():
+            for kind in (listed, copy.deepcopy):
+                args = [kind(arg) for arg in worths(name, names)]
+                held = copy.deepcopy(args)
+                first = result(getattr(module, name), *args)
+                self.assertEqual(args, held, name)
+                self.assertEqual(repr(args), repr(held), name)
+                second = result(getattr(module, name), *args)
+                self.assertEqual(first, second)
+
+    def test_a_refused_call_changes_nothing(self):
+        wrong = {"task": "zed", "choices": ["c", "zed", "a"], "name": "a", "number": 99, "group": "zed",
+                 "steps": [["in"]], "step": ["out"]}
+        for module, name, names in functions():
+            args = [listed({**WORTHS, **wrong}.get(key, RUN)) for key in names]
+            held = copy.deepcopy(args)
+            result(getattr(module, name), *args)
+            self.assertEqual(args, held, name)
+
+    def test_results_hold_no_list_that_was_handed_in(self):
+        house, steps = listed(HOUSE), [["give"]]
+        from giveways import scripts
+        told = [scripts.script_of(house, "a"), scripts.step_of(house, "a", 2), scripts.with_script(house, "c", steps),
+                scripts.with_task(house, "z", steps), scripts.with_room(house, "q", 5)]
+        held = copy.deepcopy(told)
+        house[0][0][2].append(["give"])
+        house[0][0][2][2][1] = "r"
+        steps.append(["give"])
+        self.assertEqual(told, held)
+
+    def test_only_states_tells_a_list(self):
+        for module, name, names in functions():
+            told = result(getattr(module, name), *worths(name, names))
+            self.assertEqual(isinstance(told, list), name == "states", name)
+
+            def flat(worth):
+                if isinstance(worth, (list, tuple)):
+                    for part in worth:
+                        self.assertNotIsInstance(part, list, name)
+                        flat(part)
+            flat(told)
+
+
+class Yes(unittest.TestCase):
+    def test_whether_is_told_by_true_or_false(self):
+        for module, name, names in functions():
+            if name.startswith("is_"):
+                told = result(getattr(module, name), *worths(name, names))
+                self.assertIn(told, (True, False))
+                self.assertIs(type(told), bool, name)

@@ -1,0 +1,182 @@
+"""The rules of the Python subset that can be read off the files of the package."""
+
+import ast
+import builtins
+import pathlib
+import re
+import unittest
+
+FOLDER = pathlib.Path(__file__).resolve().parent.parent / "giveways"
+BUILTINS = set("""len range enumerate zip min max sum abs sorted reversed int str bool bytes list tuple dict set
+    frozenset isinstance ord repr any all divmod Exception ValueError TypeError KeyError IndexError LookupError
+    ZeroDivisionError ArithmeticError OverflowError RuntimeError NotImplementedError AttributeError StopIteration
+    NotImplemented property staticmethod classmethod super iter next map object""".split())
+METHODS = set("""append clear copy count endswith extend find get index insert isalnum isalpha isdigit islower isspace
+    isupper items join keys ljust lower lstrip partition pop remove replace reverse rfind rjust rpartition rsplit
+    rstrip setdefault split splitlines startswith strip update upper values zfill bit_length title capitalize swapcase
+    casefold center expandtabs removeprefix removesuffix rindex isascii isdecimal isnumeric istitle isidentifier
+    isprintable add discard encode""".split())
+LIBRARY = {
+    "heapq": {"heappush", "heappop", "heapify", "heapreplace", "heappushpop"},
+    "math": {"gcd", "lcm", "isqrt", "comb", "perm", "factorial"},
+    "itertools": {"product", "combinations", "permutations"},
+}
+BARRED_WORDS = set("""type typing typing_extensions enum Enum IntEnum StrEnum Flag IntFlag Generic Protocol ABC ABCMeta
+    namedtuple NamedTuple TypedDict TYPE_CHECKING abstractmethod""".split())
+BARRED_NAMES = set("""register mro elements open input law version_info with_traceback add_note attrgetter breakpoint
+    builtins compile copyright credits delattr dir eval exec exit gc getattr globals hasattr help id importlib license
+    locals methodcaller os quit setattr super type vars sys __name__""".split())
+STATEMENTS = (
+    ast.FunctionDef, ast.ClassDef, ast.Assign, ast.AugAssign, ast.AnnAssign, ast.If, ast.While, ast.For, ast.Return,
+    ast.Break, ast.Continue, ast.Pass, ast.Raise, ast.Assert, ast.Delete, ast.Nonlocal, ast.Match, ast.With, ast.Try,
+    ast.Expr, ast.ImportFrom,
+)
+LISTED = ("any", "all", "min", "max", "sum", "sorted")
+
+
+class Language(unittest.TestCase):
+    @classmethod
+    def setUpClass(cls):
+        cls.texts = {path.stem: path.read_text(encoding="utf-8") for path in sorted(FOLDER.glob("*.py"))}
+        cls.trees = {name: ast.parse(text) for name, text in cls.texts.items()}
+        cls.defined = {
+            name: {node.name for node in tree.body if isinstance(node, (ast.FunctionDef, ast.ClassDef))}
+            | {node.targets[0].id for node in tree.body if isinstance(node, ast.Assign)}
+            for name, tree in cls.trees.items()
+        }
+        cls.methods = {
+            node.name for tree in cls.trees.values() for part in tree.body if isinstance(part, ast.ClassDef)
+            for node in part.body if isinstance(node, ast.FunctionDef)
+        }
+
+    def nodes(self, *kinds):
+        for name, tree in self.trees.items():
+            for node in ast.walk(tree):
+                if isinstance(node, kinds):
+                    yield f"{name}:{getattr(node, 'lineno', 0)}", node
+
+    def test_files(self):
+        for path in FOLDER.rglob("*"):
+            if "__pycache__" not in path.parts:
+                self.assertRegex(path.name, r"^[a-z0-9_]+\.py$")
+        self.assertLessEqual(len(self.texts), 100)
+        self.assertIn("__init__", self.texts)
+
+    def test_characters_and_sizes(self):
+        for name, text in self.texts.items():
+            self.assertRegex(text, r"\A[ -~\n]*\Z", name)
+            self.assertLessEqual(len(text.splitlines()), 399, name)
+            self.assertLessEqual(max(map(len, text.splitlines())), 120, name)
+            self.assertFalse(re.search(r" $", text, re.M), name)
+        for place, node in self.nodes(ast.FunctionDef):
+            self.assertLessEqual(node.end_lineno - node.lineno + 1, 40, place)
+
+    def test_imports(self):
+        ahead = {}
+        for name, tree in self.trees.items():
+            found = [node for node in ast.walk(tree) if isinstance(node, (ast.Import, ast.ImportFrom))]
+            self.assertEqual(found, [node for node in tree.body if isinstance(node, ast.ImportFrom)], name)
+            ahead[name] = set()
+            for node in found:
+                for part in node.names:
+                    self.assertIsNone(part.asname)
+                    if node.module in LIBRARY:
+                        self.assertIn(part.name, LIBRARY[node.module])
+                    else:
+                        stem = node.module.removeprefix("giveways.")
+                        self.assertIn(part.name, self.defined[stem], name)
+                        ahead[name].add(stem)
+        while ahead:
+            free = [name for name in ahead if not ahead[name] & set(ahead)]
+            self.assertTrue(free, "files that import from each other")
+            ahead = {name: ahead[name] for name in ahead if name not in free}
+
+    def test_imported_names_are_used(self):
+        for name, tree in self.trees.items():
+            used = {node.id for node in ast.walk(tree) if isinstance(node, ast.Name)}
+            for node in tree.body:
+                if isinstance(node, ast.ImportFrom):
+                    self.assertEqual([part.name for part in node.names if part.name not in used], [], name)
+
+    def test_statements(self):
+        for place, node in self.nodes(ast.stmt):
+            self.assertIsInstance(node, STATEMENTS, place)
+        for place, node in self.nodes(ast.Set, ast.AsyncFor, ast.Await, ast.Div, ast.Global):
+            self.assertIsInstance(node, ast.Set, place)
+        for name, tree in self.trees.items():
+            for node in tree.body:
+                self.assertIsInstance(node, (ast.ImportFrom, ast.FunctionDef, ast.ClassDef, ast.Assign, ast.Expr), name)
+                if isinstance(node, ast.Assign):
+                    self.assertEqual(len(node.targets), 1)
+                    self.assertIsInstance(node.targets[0], ast.Name)
+                    self.assertFalse([part for part in ast.walk(node.value) if isinstance(part, ast.Call)])
+
+    def test_no_decorators(self):
+        for place, node in self.nodes(ast.FunctionDef, ast.ClassDef):
+            for mark in node.decorator_list:
+                self.assertIn(ast.unparse(mark).split(".")[-1], ("property", "setter", "staticmethod", "classmethod"))
+
+    def test_literals(self):
+        for place, node in self.nodes(ast.Constant):
+            self.assertNotIsInstance(node.value, (float, complex), place)
+            if isinstance(node.value, str):
+                self.assertNotIn("%", node.value, place)
+
+    def test_names(self):
+        for name, tree in self.trees.items():
+            given = {node.id for node in ast.walk(tree) if isinstance(node, ast.Name) and isinstance(node.ctx, ast.Store)}
+            given |= {node.arg for node in ast.walk(tree) if isinstance(node, ast.arg)}
+            functions = {node.name for node in ast.walk(tree) if isinstance(node, ast.FunctionDef)}
+            plain = {node.name for node in tree.body if isinstance(node, (ast.FunctionDef, ast.ClassDef))}
+            imported = {part.name for node in tree.body if isinstance(node, ast.ImportFrom) for part in node.names}
+            classes = {node.name for node in tree.body if isinstance(node, ast.ClassDef)}
+            self.assertFalse((given | plain) & set(dir(builtins)), name)
+            self.assertFalse((given | functions | plain) & BARRED_NAMES, name)
+            self.assertFalse(given & (imported | classes), name)
+            for word in given | plain:
+                self.assertFalse(word.startswith("__"), word)
+            used = {node.id for node in ast.walk(tree) if isinstance(node, ast.Name) and isinstance(node.ctx, ast.Load)}
+            self.assertFalse(used - given - functions - imported - classes - BUILTINS, name)
+            self.assertNotIn("_", used)
+
+    def test_barred_words(self):
+        for name, tree in self.trees.items():
+            spoken = {node.value for node in ast.walk(tree) if isinstance(node, ast.Constant) and isinstance(node.value, str)}
+            spoken -= {ast.get_docstring(node, clean=False) for node in ast.walk(tree)
+                       if isinstance(node, (ast.Module, ast.FunctionDef, ast.ClassDef))}
+            named = {node.id for node in ast.walk(tree) if isinstance(node, ast.Name)}
+            named |= {node.attr for node in ast.walk(tree) if isinstance(node, ast.Attribute)}
+            words = {word for text in spoken | named for word in re.findall(r"\w+", text)}
+            self.assertFalse(words & (BARRED_WORDS - {"type"}), name)
+            self.assertNotIn("type", named)
+            for word in ("dataclass", "overload", "contextmanager"):
+                self.assertNotIn(word, self.texts[name])
+
+    def test_calls_of_methods(self):
+        for place, node in self.nodes(ast.Call):
+            if isinstance(node.func, ast.Attribute):
+                self.assertIn(node.func.attr, METHODS | self.methods, place)
+            if isinstance(node.func, ast.Name) and node.func.id in LISTED:
+                self.assertFalse([arg for arg in node.args if isinstance(arg, ast.GeneratorExp)], place)
+
+    def test_is(self):
+        for place, node in self.nodes(ast.Compare):
+            for sign, other in zip(node.ops, node.comparators):
+                if isinstance(sign, (ast.Is, ast.IsNot)):
+                    self.assertIn(ast.unparse(other), ("None", "True", "False"), place)
+
+    def test_raise_makes_its_error_on_the_spot(self):
+        for place, node in self.nodes(ast.Raise):
+            if node.exc is not None:
+                self.assertIsInstance(node.exc, ast.Call, place)
+                self.assertIn(node.exc.func.id, self.defined["errors"] | BUILTINS, place)
+
+    def test_each_function_and_class_says_what_it_is_for(self):
+        for place, node in self.nodes(ast.FunctionDef, ast.ClassDef, ast.Module):
+            if not isinstance(node, ast.FunctionDef) or node.name != "__init__":
+                self.assertTrue(ast.get_docstring(node), place)
+
+    def test_interface_functions_stand_in_their_files(self):
+        self.assertLessEqual({"begin", "told", "is_fair"}, self.defined["houses"])
+        self.assertLessEqual({"is_step", "is_house", "with_room"}, self.defined["scripts"])
+        self.assertLessEqual({"HouseError", "Unfit"}, self.defined["errors"])
