@@ -1,8 +1,9 @@
 """Runs of a HOUSE: its STATES, its turns, and who waits how long."""
 
-from giveways.errors import NotReady, NotWhole, NoTask
+from giveways.errors import NotWhole, NoTask
 from giveways.plans import Plan
 from giveways.play import DIARY, NUMBER, STATUS, Scene, beginning, is_ready, ready_tasks, state_behind_turn, step_ahead
+from giveways.runs import check_task, checked_turn, first_ready, played, state_behind, turns_by
 from giveways.shapes import tupled
 
 
@@ -166,63 +167,6 @@ def who_waits(house, choices, many):
 def is_fair(house, choices, many):
     """Whether nobody waits for more than so many such turns."""
     return who_waits(house, choices, many) == ()
-
-
-def check_task(plan, task):
-    """Refuse a string that is none of the tasks."""
-    if task not in plan.stand_at:
-        raise NoTask(task)
-
-
-def checked_turn(plan, state, task):
-    """The STATE behind the turn of this task, which may not be ready."""
-    if not is_ready(Scene(plan, state), task):
-        raise NotReady(task)
-    return state_behind_turn(plan, state, task)
-
-
-def played(plan, choices):
-    """The list of the STATES behind no turn, behind one, and so on to all."""
-    for task in choices:
-        check_task(plan, task)
-    row = [beginning(plan)]
-    for task in choices:
-        row.append(checked_turn(plan, row[-1], task))
-    return row
-
-
-def state_behind(plan, thing):
-    """The STATE behind thing if it is CHOICES that are a run, otherwise None."""
-    if not isinstance(thing, tuple):
-        return None
-    state = beginning(plan)
-    for task in thing:
-        if not isinstance(task, str) or task not in plan.stand_at:
-            return None
-        if not is_ready(Scene(plan, state), task):
-            return None
-        state = state_behind_turn(plan, state, task)
-    return state
-
-
-def first_ready(plan, state, row):
-    """The first task in row that is ready, None if none is."""
-    scene = Scene(plan, state)
-    for task in row:
-        if is_ready(scene, task):
-            return task
-    return None
-
-
-def turns_by(plan, state, row):
-    """The turns on from a STATE, each by the first one in row that is ready, till none is."""
-    turns = []
-    task = first_ready(plan, state, row)
-    while task is not None:
-        turns.append(task)
-        state = state_behind_turn(plan, state, task)
-        task = first_ready(plan, state, row)
-    return tuple(turns)
 
 
 def waits_by_task(house, choices):

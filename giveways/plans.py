@@ -19,6 +19,7 @@ class Plan:
         self.members = {pair[0]: tasks_in(house, pair[0]) for pair in groups}
         self.wards = {name: self.wards_of(name, groups) for name in self.tasks}
         self.mates = {row[0]: self.mates_of(row[0], row[1]) for row in rows}
+        self.hosts = {row[0]: tuple([host for group, host in groups if group == row[1]]) for row in rows}
         self.stand_at = places(self.tasks)
         self.lane_at = places(self.queues)
         self.signal_at = places(self.signals)

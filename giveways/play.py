@@ -19,6 +19,7 @@ class Scene:
         self.stands = list(state[1])
         self.lanes = list(state[2])
         self.signs = list(state[3])
+        self.asks = []
 
     def told(self):
         """The STATE that stands here now."""
@@ -40,6 +41,10 @@ class Scene:
     def is_going(self, task):
         """Whether this task is going."""
         return self.stand(task)[STATUS] == "going"
+
+    def depth(self, task):
+        """How many shields stand around the task, by the STEPS that it has taken."""
+        return self.plan.shields[task][self.stand(task)[NUMBER]]
 
     def lane(self, queue):
         """The row of this queue."""
@@ -185,8 +190,7 @@ def take_cancel(scene, step, mark):
 def take_out(scene, step, mark):
     """Leave a shield; behind the last one, stop if that was asked within."""
     held = scene.stand(mark[0])[HELD]
-    if held != ():
-        # Within a further shield nothing comes of this: held stays the first MARK.
+    if held != () and scene.depth(mark[0]) == 0:
         ask_to_stop(scene, (mark[0],), held)
 
 
@@ -226,15 +230,23 @@ def ask_to_stop(scene, names, mark):
     asked = list(names[::-1])
     while asked:
         name = asked.pop()
-        row = scene.stand(name)
-        if row[STATUS] != "going":
-            continue
-        if scene.plan.shields[name][row[NUMBER]] == 0:
+        word = word_for_asked(scene, name)
+        scene.asks.append((name, word))
+        if word == "stops":
             scene.change(name, STATUS, "stopped")
             scene.note(name, ("stopped", mark))
             asked.extend(scene.plan.wards[name][::-1])
-        elif row[HELD] == ():
+        elif word == "held":
             scene.change(name, HELD, mark)
+
+
+def word_for_asked(scene, task):
+    """What comes of it when this task is asked to stop."""
+    if not scene.is_going(task):
+        return "nothing"
+    if scene.depth(task) == 0:
+        return "stops"
+    return "held" if scene.stand(task)[HELD] == () else "nothing"
 
 
 ACTIONS = {
@@ -254,6 +266,11 @@ ACTIONS = {
 
 def state_behind_turn(plan, state, task):
     """The STATE behind the turn of a task that is ready, settled."""
+    return scene_behind_turn(plan, state, task).told()
+
+
+def scene_behind_turn(plan, state, task):
+    """The scene behind the turn of a task that is ready, settled, with what it asked of whom."""
     scene = Scene(plan, state)
     number = scene.stand(task)[NUMBER]
     step = step_ahead(scene, task)
@@ -266,4 +283,4 @@ def state_behind_turn(plan, state, task):
         action(scene, step, (task, number))
     end_if_through(scene, task)
     settle(scene)
-    return scene.told()
+    return scene

@@ -29,3 +29,14 @@ def tupled(worth):
     if isinstance(worth, (list, tuple)):
         return tuple([tupled(part) for part in worth])
     return worth
+
+
+def is_just(thing, worth):
+    """Whether thing is this value of numbers, strings and tuples, with the same kind of value in each place."""
+    if isinstance(worth, tuple):
+        return isinstance(thing, tuple) and len(thing) == len(worth) and all([
+            is_just(part, other) for part, other in zip(thing, worth)
+        ])
+    if isinstance(worth, str):
+        return isinstance(thing, str) and thing == worth
+    return is_number(thing) and thing == worth

@@ -23,6 +23,7 @@ SIGNAL_WORDS = ("set", "hear")
 TASK_WORDS = ("start", "join", "cancel")
 CLOSING_WORDS = ("close", "catch")
 TIMED_WORDS = ("get", "hear", "join")
+NOTING_WORDS = ("put", "get", "hear", "join", "close", "catch")
 
 
 def fits_part(kind, thing):

@@ -116,3 +116,49 @@ def stands(state):
     """The rows of the stands by task, each as a dict of its parts."""
     parts = ("task", "status", "number", "by", "held", "words", "diary")
     return {row[0]: dict(zip(parts, row)) for row in state[1]}
+
+
+def small_house(start):
+    """A HOUSE of two to four tasks and at most twelve STEPS, told by this number alone."""
+    number = start * 1000
+    while True:
+        house = made_house(number)
+        if 2 <= len(house[0]) <= 4 and sum(len(row[2]) for row in house[0]) <= 12:
+            return house
+        number += 1
+
+
+def odd_things():
+    """Values of every kind that a thing may have."""
+    deep = "a"
+    for _ in range(12):
+        deep = (deep,)
+    return [None, True, False, 0, 1, -1, 10 ** 30, "", "a", "ann", (), [], ((),), ([],), [()], ("ann",), ["ann"], ("",),
+            (None,), (0,), (True,), (-1,), (("ann",),), (("ann", 0),), ("ann", 0), ("a",) * 300, (0,) * 300, deep,
+            ((), ()), ((), (), ()), (((), ()), "a", "b"), ("a", (), "b"), tuple(range(40)), (("a",), ("b",))]
+
+
+def spoilt(thing):
+    """The thing with one place changed, each in many ways, at any depth."""
+    yield from (None, [thing], (thing,), True)
+    if isinstance(thing, str):
+        yield from ("", thing + "x", 0, thing.upper())
+    elif isinstance(thing, bool) or thing is None:
+        yield 1
+    elif isinstance(thing, int):
+        yield from (thing + 1, thing - 1, -thing - 1, str(thing), bool(thing))
+    else:
+        yield from (list(thing), thing + (thing[-1:] or ("ann",)), thing + (None,), thing[1:], thing[:-1], thing[::-1])
+        for at, part in enumerate(thing):
+            for other in spoilt(part):
+                yield thing[:at] + (other,) + thing[at + 1:]
+
+
+def judged(case, judge, right, others=()):
+    """Hold an is_ function to the list of all that is right, on it, on it spoilt and on odd things."""
+    known = {repr(thing) for thing in right}
+    for thing in [*right, *others, *odd_things()]:
+        case.assertEqual(judge(thing), repr(thing) in known, thing)
+    for thing in list(right)[:3]:
+        for other in spoilt(thing):
+            case.assertEqual(judge(other), repr(other) in known, other)

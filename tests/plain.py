@@ -28,7 +28,7 @@ class Play:
     """One STATE as plain dicts, on which turns are taken."""
 
     def __init__(self, house):
-        self.house, self.clock = house, 0
+        self.house, self.clock, self.turns, self.log = house, 0, [], []
         steps = [step for row in house[0] for step in row[2]]
         started = [step[1] for step in steps if step[0] == "start"]
         self.status = {name: "idle" for name in names_of(house)}
@@ -37,6 +37,7 @@ class Play:
         self.held = {name: () for name in self.status}
         self.words = {name: () for name in self.status}
         self.diary = {name: [] for name in self.status}
+        self.over_at = {}
         queues = [step[1] for step in steps if step[0] in ("put", "get")] + [queue for queue, room in house[2]]
         self.lying = {queue: [] for queue in queues}
         self.puts = {queue: 0 for queue in queues}
@@ -56,9 +57,19 @@ class Play:
         lanes = tuple((queue, tuple(self.lying[queue]), self.puts[queue]) for queue in sorted(self.lying))
         return (self.clock, rows, lanes, tuple(sorted(self.setter.items())))
 
+    def copy(self):
+        other = object.__new__(Play)
+        for key, worth in vars(self).items():
+            setattr(other, key, worth)
+        for key in ("turns", "log", "status", "number", "by", "held", "words", "over_at", "puts", "setter"):
+            setattr(other, key, getattr(self, key).copy())
+        for key in ("diary", "lying"):
+            setattr(other, key, {name: row.copy() for name, row in getattr(self, key).items()})
+        return other
+
     def end(self, name):
         if self.status[name] == "going" and self.number[name] == len(script(self.house, name)):
-            self.status[name] = "ended"
+            self.status[name], self.over_at[name] = "ended", self.clock
 
     def next(self, name):
         return script(self.house, name)[self.number[name]]
@@ -108,17 +119,22 @@ class Play:
 
     def ask(self, name, mark):
         if self.status[name] != "going":
+            self.log.append(("asked", name, "nothing"))
             return
         if self.shields(name) > 0:
+            self.log.append(("asked", name, "nothing" if self.held[name] else "held"))
             self.held[name] = self.held[name] or mark
             return
-        self.status[name] = "stopped"
+        self.log.append(("asked", name, "stops"))
+        self.log.append(("stopped", name, mark, self.number[name]))
+        self.status[name], self.over_at[name] = "stopped", self.clock
         self.diary[name].append(("stopped", mark))
         for other in hosted_tasks(self.house, name):
             self.ask(other, mark)
 
     def fail(self, name, words, mark):
-        self.status[name], self.words[name] = "failed", words
+        self.log.append(("failed", name, mark, words))
+        self.status[name], self.words[name], self.over_at[name] = "failed", words, self.clock
         for other in hosted_tasks(self.house, name) + group_mates(self.house, name):
             self.ask(other, mark)
 
@@ -126,7 +142,10 @@ class Play:
         assert self.is_ready(name)
         step, late, mark = self.next(name), not self.needs_nothing(name), (name, self.number[name])
         self.number[name] += 1
+        self.turns.append(name)
+        self.log.append(("taken", mark))
         if late:
+            self.log.append(("late", mark))
             self.diary[name].append(("late", mark[1]))
         else:
             self.do(name, step, mark)
@@ -136,14 +155,17 @@ class Play:
     def do(self, name, step, mark):
         word, thing = step[0], step[1] if len(step) > 1 else None
         if word == "put":
+            self.log.append(("put", thing, mark))
             self.diary[name].append(("put", self.puts[thing]))
             self.lying[thing].append(mark)
             self.puts[thing] += 1
         elif word == "get":
+            self.log.append(("got", thing, mark, self.lying[thing][0]))
             self.diary[name].append(("got", self.lying[thing].pop(0)))
         elif word == "set":
             self.setter[thing] = self.setter[thing] or mark
         elif word == "hear":
+            self.log.append(("heard", thing, mark))
             self.diary[name].append(("heard", self.setter[thing]))
         elif word == "start":
             self.status[thing], self.by[thing] = "going", mark
@@ -154,6 +176,7 @@ class Play:
             self.ask(thing, mark)
         elif word in ("close", "catch"):
             words = tuple(sorted({word for other in group_tasks(self.house, thing) for word in self.words[other]}))
+            self.log.append(("closed", thing, words))
             self.diary[name].append(("closed", words))
             if words and word == "close":
                 self.fail(name, words, mark)
@@ -161,3 +184,33 @@ class Play:
             self.fail(name, (thing,), mark)
         elif word == "out" and self.shields(name) == 0 and self.held[name] != ():
             self.ask(name, self.held[name])
+
+    def events(self, word):
+        """What was logged by this word, each without it."""
+        return [event[1:] for event in self.log if event[0] == word]
+
+
+def played(house, choices):
+    """The Play behind these turns."""
+    play = Play(house)
+    for name in choices:
+        play.take(name)
+    return play
+
+
+def all_plays(house, limit):
+    """The Play behind each RUN of a small HOUSE, shorter ones first; None if there are more than so many."""
+    plays = [Play(house)]
+    for play in plays:
+        for name in play.ready():
+            plays.append(play.copy())
+            plays[-1].take(name)
+        if len(plays) > limit:
+            return None
+    return plays
+
+
+def whole_plays(house, limit):
+    """The Play behind each whole run, None if there are more RUNS than so many."""
+    plays = all_plays(house, limit)
+    return plays and [play for play in plays if not play.ready()]

@@ -7,7 +7,8 @@ import unittest
 
 from giveways.errors import HouseError
 from giveways.houses import after
-from tests.made import built, listed, made_house, made_run
+from giveways.texts import house_text
+from tests.made import built, listed, made_house, made_run, small_house
 
 INTERFACE = {
     "houses": """begin(house), ready(house, state), next_step(house, state, task), turn(house, state, task),
@@ -23,6 +24,23 @@ INTERFACE = {
         room_of(house, queue), with_script(house, task, steps), with_step(house, task, number, step),
         without_step(house, task, number), with_task(house, name, steps), without_task(house, task),
         with_room(house, queue, room)""",
+    "texts": """script_text(steps), names_text(names), marks_text(marks), house_text(house), script_from(text),
+        names_from(text), marks_from(text), house_from(text)""",
+    "lanes": """wait_of(house, choices, task), waits(house, choices), end_of(house, choices, task), puts_of(house, choices,
+        queue), gets_of(house, choices, queue), lying(house, choices, queue), got_by(house, choices, mark),
+        taken_by(house, choices, mark), set_by(house, choices, signal), heard_by(house, choices, signal), lates(house,
+        choices), over_at(house, choices, task), can_get(house, mark), can_miss(house, mark), is_miss(house, mark,
+        thing), can_set(house, signal), unset_run(house, signal), is_unset_run(house, signal, thing),
+        can_be_late(house, mark), surely_late(house, mark), soonest_over(house, task), latest_over(house, task),
+        fullest(house, queue), most_lying(house, queue), is_fullest(house, queue, thing), least_room(house, queue),
+        moments_of(house), with_moments(house, moments), at_ranks(house), with_end(house, mark, end)""",
+    "groups": """hosted(house, task), mates(house, task), below(house, task), shields(house, task), asked(house, choices,
+        task), held_back(house, choices), stopped_by(house, choices, task), words_in(house, choices, group),
+        came_out(house, choices, group), blame(house, choices, task), is_blame(house, choices, task, thing),
+        how_many_blames(house, choices, task), first_causes(house, choices, task), with_cancel(house, task, number,
+        name), with_shield(house, task, first, last), without_shield(house, task, number), may_stop(house, task),
+        may_fail(house, task), may_come_out(house, group), never_stopped(house), biting(house, task, name),
+        is_never_cut(house, task), keeping_shields(house, task), least_shield(house, task)""",
 }
 HOUSE = built({"a": [("start", "b"), ("put", "q"), ("get", "q", 4), ("close", "g")],
                "b in g": [("in",), ("join", "c", ()), ("out",), ("fail", "w")], "c": [("set", "s"), ("hear", "s", ())]},
@@ -31,9 +49,30 @@ RUN = ("a", "a", "c", "b")
 WORTHS = {
     "house": HOUSE, "state": after(HOUSE, RUN), "task": "b", "choices": RUN, "row": ("c", "b", "a"), "many": 0,
     "number": 1, "group": "g", "queue": "q", "room": 3, "name": "z", "steps": (("get", "q", ()), ("join", "a", 2)),
-    "step": ("hear", "s", ()),
+    "step": ("hear", "s", ()), "mark": ("a", 2), "signal": "s", "moments": (7,), "end": 9, "first": 1, "last": 1,
+    "marks": (("b", 1), ("a", 0), ("b", 1)), "names": ("a", "b", "a"), "text": "a 0, b 1",
 }
-THINGS = {"is_run": RUN, "is_whole": RUN, "is_step": ("get", "q", ()), "is_script": (("give",),), "is_house": HOUSE}
+WHOLE = ("a", "a", "a", "b", "c", "c", "b", "b", "b", "a")
+OWN = {
+    "turn": {"task": "a"}, "told": {"choices": WHOLE}, "without_task": {"house": built({"a": [("give",)], "b": [("give",)]})},
+    "taken_by": {"mark": ("a", 1)}, "house_from": {"text": house_text(HOUSE)}, "script_from": {"text": "in, get q 3, out"},
+    "names_from": {"text": "a b a"}, "with_step": {"name": "z"}, "with_cancel": {"name": "c"}, "biting": {"name": "c"},
+    "came_out": {"choices": WHOLE}, "words_in": {"choices": WHOLE}, "blame": {"choices": WHOLE, "task": "a"},
+    "is_blame": {"choices": WHOLE, "task": "a"}, "how_many_blames": {"choices": WHOLE, "task": "a"},
+    "first_causes": {"choices": WHOLE, "task": "a"}, "asked": {"choices": WHOLE[:-1], "task": "a"},
+    "without_shield": {"number": 0}, "hosted": {"task": "a"}, "below": {"task": "a"}, "may_fail": {"task": "a"},
+    "got_by": {"choices": WHOLE}, "gets_of": {"choices": WHOLE}, "heard_by": {"choices": WHOLE},
+}
+THINGS = {
+    "is_run": RUN, "is_whole": RUN, "is_step": ("get", "q", ()), "is_script": (("give",),), "is_house": HOUSE,
+    "is_miss": WHOLE, "is_unset_run": WHOLE, "is_fullest": ("a", "a"),
+    "is_blame": (("a", "group", ("a", 3)), ("b", "own", ("b", 3))),
+}
+# Of these the document says that they tell a list.
+TELL_LISTS = ("states", "keeping_shields")
+SMALL = ("can_get", "can_miss", "is_miss", "can_set", "unset_run", "is_unset_run", "can_be_late", "surely_late", "soonest_over",
+         "latest_over", "fullest", "most_lying", "is_fullest", "least_room", "may_stop", "may_fail", "may_come_out",
+         "never_stopped", "biting", "is_never_cut", "keeping_shields", "least_shield")
 
 
 def functions():
@@ -45,7 +84,8 @@ def functions():
 
 
 def worths(name, names):
-    return [THINGS[name] if key == "thing" else WORTHS[key] for key in names]
+    known = {**WORTHS, **OWN.get(name, {}), "thing": THINGS.get(name)}
+    return [known[key] for key in names]
 
 
 def result(function, *args, **more):
@@ -68,7 +108,16 @@ class Interface(unittest.TestCase):
                 self.assertIs(parameter.default, inspect.Parameter.empty)
 
     def test_all_are_there(self):
-        self.assertEqual(len(list(functions())), 23 + 24)
+        self.assertEqual(len(list(functions())), 23 + 24 + 8 + 30 + 24)
+
+    def test_the_worths_are_not_refused(self):
+        """Each call with the worths of this file tells something, or the tests below would hold little."""
+        for module, name, names in functions():
+            told = result(getattr(module, name), *worths(name, names))
+            self.assertFalse(isinstance(told, tuple) and told[:1] and str(told[0]).startswith("No"), (name, told))
+            self.assertNotEqual(told, ("Unfit", {}), name)
+            if name in THINGS and name not in ("is_whole", "is_miss", "is_unset_run"):
+                self.assertIs(told, True, name)
 
     def test_by_names_as_by_places(self):
         for module, name, names in functions():
@@ -107,13 +156,15 @@ class Lists(unittest.TestCase):
                         self.assertEqual(repr(told), expected, (name, key, other))
 
     def test_along_many_houses(self):
-        for number in range(60):
-            house = made_house(number)
+        for number in range(40):
+            house = made_house(number) if number < 30 else small_house(number)
             run = made_run(house, number)
             state = after(house, run[:3])
             more = {"house": house, "state": state, "choices": run, "task": house[0][0][0],
                     "row": tuple(row[0] for row in house[0])}
             for module, name, names in functions():
+                if name in SMALL and number < 30:
+                    continue
                 args = [{**WORTHS, **more, "thing": run}[key] for key in names]
                 swapped = [arg if key == "thing" else listed(arg) for key, arg in zip(names, args)]
                 function = getattr(module, name)
@@ -152,10 +203,10 @@ class Unchanged(unittest.TestCase):
         steps.append(["give"])
         self.assertEqual(told, held)
 
-    def test_only_states_tells_a_list(self):
+    def test_which_tell_a_list(self):
         for module, name, names in functions():
             told = result(getattr(module, name), *worths(name, names))
-            self.assertEqual(isinstance(told, list), name == "states", name)
+            self.assertEqual(isinstance(told, list), name in TELL_LISTS, name)
 
             def flat(worth):
                 if isinstance(worth, (list, tuple)):

@@ -130,7 +130,7 @@ class Language(unittest.TestCase):
             plain = {node.name for node in tree.body if isinstance(node, (ast.FunctionDef, ast.ClassDef))}
             imported = {part.name for node in tree.body if isinstance(node, ast.ImportFrom) for part in node.names}
             classes = {node.name for node in tree.body if isinstance(node, ast.ClassDef)}
-            self.assertFalse((given | plain) & set(dir(builtins)), name)
+            self.assertFalse((given | plain) & set(dir(builtins)) - {"_"}, name)
             self.assertFalse((given | functions | plain) & BARRED_NAMES, name)
             self.assertFalse(given & (imported | classes), name)
             for word in given | plain:
