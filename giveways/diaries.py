@@ -46,3 +46,14 @@ def stopped_mark(plan, state, task):
 def is_taken(plan, state, mark):
     """Whether the STEP of this MARK is taken."""
     return row_at(plan, state, mark[0])[NUMBER] > mark[1]
+
+
+def next_mark(plan, state, task):
+    """The MARK of the next STEP of this task, if there is one."""
+    return (task, row_at(plan, state, task)[NUMBER])
+
+
+def words_told_at(plan, state, mark):
+    """The words that the closing STEP of this MARK told, None if it is not taken."""
+    entry = entry_of(plan, state, mark)
+    return entry[1] if entry is not None else None

@@ -1,12 +1,12 @@
 """Groups and shields: who is asked to stop by whom, who is to blame, and what a stop can do."""
 
 from giveways.blames import blames_at
-from giveways.checks import check_group, check_number
-from giveways.diaries import entry_of, row_at, stopped_mark
-from giveways.errors import NoStep, NotReady, Unfit
+from giveways.checks import check_group, check_number, check_task, check_tasks
+from giveways.diaries import row_at, stopped_mark, words_told_at
+from giveways.errors import Unfit
 from giveways.plans import Plan
-from giveways.play import HELD, NUMBER, STATUS, WORDS, Scene, is_ready, scene_behind_turn, words_of
-from giveways.runs import check_task, check_tasks, played
+from giveways.play import HELD, NUMBER, STATUS, WORDS, Scene, scene_behind_turn, words_of
+from giveways.runs import check_ready, played
 from giveways.scripts import closer_of, script_of, with_script, with_step
 from giveways.shapes import is_just, tupled
 from giveways.webs import ends_of_plan
@@ -49,8 +49,7 @@ def asked(house, choices, task):
     plan = Plan(tupled(house))
     check_task(plan, task)
     state = played(plan, choices)[-1]
-    if not is_ready(Scene(plan, state), task):
-        raise NotReady(task)
+    check_ready(plan, state, task)
     return tuple(scene_behind_turn(plan, state, task).asks)
 
 
@@ -106,10 +105,7 @@ def first_causes(house, choices, task):
 
 def with_cancel(house, task, number, name):
     """The HOUSE with a STEP put in that cancels the task of this name."""
-    plan = Plan(tupled(house))
-    check_tasks(plan, (task, name))
-    if not 0 <= number <= len(plan.scripts[task]):
-        raise NoStep(number)
+    check_tasks(Plan(tupled(house)), (task, name))
     return with_step(house, task, number, ("cancel", name))
 
 
@@ -157,7 +153,6 @@ def may_fail(house, task):
 def may_come_out(house, group):
     """The set of the words, together, that the "close" or "catch" of this group tells in some run."""
     plan = Plan(tupled(house))
-    check_group(plan, group)
     mark = closer_of(house, group)
     words = [words_told_at(plan, state, mark) for state in ends_of_plan(plan)]
     return tuple(sorted({some for some in words if some is not None}))
@@ -236,9 +231,3 @@ def can_shield(steps, first, last):
     """Whether a shield can stand around the STEPS from first to last."""
     parted = [pair for pair in shields_in(steps) if (first <= pair[0] <= last) != (first <= pair[1] <= last)]
     return first <= last and parted == []
-
-
-def words_told_at(plan, state, mark):
-    """The words that the closing STEP of this MARK told, None if it is not taken."""
-    entry = entry_of(plan, state, mark)
-    return entry[1] if entry is not None else None

@@ -1,9 +1,10 @@
 """Runs of a HOUSE: its STATES, its turns, and who waits how long."""
 
-from giveways.errors import NotWhole, NoTask
+from giveways.checks import check_task
+from giveways.errors import NoTask
 from giveways.plans import Plan
 from giveways.play import DIARY, NUMBER, STATUS, Scene, beginning, is_ready, ready_tasks, state_behind_turn, step_ahead
-from giveways.runs import check_task, checked_turn, first_ready, played, state_behind, turns_by
+from giveways.runs import checked_turn, first_ready, played, state_if_run, state_if_whole, told_by, turns_by
 from giveways.shapes import tupled
 
 
@@ -43,7 +44,7 @@ def after(house, choices):
 
 def is_run(house, thing):
     """Whether thing is CHOICES that are a run of the HOUSE."""
-    return state_behind(Plan(tupled(house)), thing) is not None
+    return state_if_run(Plan(tupled(house)), thing) is not None
 
 
 def is_done(house, state):
@@ -53,18 +54,12 @@ def is_done(house, state):
 
 def is_whole(house, thing):
     """Whether thing is a whole run."""
-    plan = Plan(tupled(house))
-    state = state_behind(plan, thing)
-    return state is not None and ready_tasks(plan, state) == ()
+    return state_if_whole(Plan(tupled(house)), thing) is not None
 
 
 def told(house, choices):
     """What is told by a whole run."""
-    plan = Plan(tupled(house))
-    state = played(plan, choices)[-1]
-    if ready_tasks(plan, state) != ():
-        raise NotWhole()
-    return state
+    return told_by(Plan(tupled(house)), choices)
 
 
 def marks(house, choices):

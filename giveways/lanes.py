@@ -1,11 +1,11 @@
 """Lanes and the clock: who waits for what, who got, set and heard what, what can and what surely comes."""
 
-from giveways.checks import check_queue, check_signal, check_word
+from giveways.checks import check_queue, check_signal, check_task, check_word
 from giveways.diaries import entry_of, is_over_at, noted
 from giveways.errors import Unfit
 from giveways.plans import Plan
-from giveways.play import Scene, is_ready, ready_tasks, step_ahead
-from giveways.runs import check_task, played, state_behind
+from giveways.play import Scene, is_ready, step_ahead
+from giveways.runs import played, state_if_run, state_if_whole
 from giveways.scripts import with_room
 from giveways.shapes import tupled
 from giveways.steps import CLOSING_WORDS, TIMED_WORDS, naming_marks, time_of
@@ -142,7 +142,7 @@ def is_miss(house, mark, thing):
     """Whether thing is a whole run in which this get takes nothing."""
     plan = Plan(tupled(house))
     check_mark_of(plan, mark, ("get",))
-    state = end_behind(plan, thing)
+    state = state_if_whole(plan, thing)
     return state is not None and got_at(plan, state, mark) is None
 
 
@@ -166,7 +166,7 @@ def is_unset_run(house, signal, thing):
     """Whether thing is a whole run in which nobody sets this signal."""
     plan = Plan(tupled(house))
     check_signal(plan, signal)
-    state = end_behind(plan, thing)
+    state = state_if_whole(plan, thing)
     return state is not None and setter_at(plan, state, signal) is None
 
 
@@ -218,7 +218,7 @@ def is_fullest(house, queue, thing):
     """Whether thing is a RUN behind which as many puts lie in this queue as can be."""
     plan = Plan(tupled(house))
     check_queue(plan, queue)
-    state = state_behind(plan, thing)
+    state = state_if_run(plan, thing)
     return state is not None and len(lying_at(plan, state, queue)) == max(numbers_lying(web_of(plan), queue))
 
 
@@ -229,7 +229,7 @@ def least_room(house, queue):
     many = len([mark for name, mark in naming_marks(tupled(house)[0], ("put",)) if name == queue])
     wanted = sorted(ends_of_plan(Plan(with_room(house, queue, max(1, many)))))
     room = 1
-    while room < many and sorted(ends_of_plan(Plan(with_room(house, queue, room)))) != wanted:
+    while sorted(ends_of_plan(Plan(with_room(house, queue, room)))) != wanted:
         room += 1
     return room
 
@@ -309,12 +309,6 @@ def setter_at(plan, state, signal):
     """The MARK that set this signal first, None if none did."""
     mark = Scene(plan, state).first_setter(signal)
     return mark if mark != () else None
-
-
-def end_behind(plan, thing):
-    """The STATE behind thing if it is a whole run, otherwise None."""
-    state = state_behind(plan, thing)
-    return state if state is not None and ready_tasks(plan, state) == () else None
 
 
 def latenesses(house, mark):

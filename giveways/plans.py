@@ -1,7 +1,7 @@
 """What a HOUSE says, put into tables in which a turn looks things up."""
 
 from giveways.scripts import first_tasks, queue_names, signal_names, task_names, tasks_in
-from giveways.steps import depths
+from giveways.steps import depths, naming_marks
 
 
 class Plan:
@@ -20,6 +20,7 @@ class Plan:
         self.wards = {name: self.wards_of(name, groups) for name in self.tasks}
         self.mates = {row[0]: self.mates_of(row[0], row[1]) for row in rows}
         self.hosts = {row[0]: tuple([host for group, host in groups if group == row[1]]) for row in rows}
+        self.starters = {name: mark[0] for name, mark in naming_marks(rows, ("start",))}
         self.stand_at = places(self.tasks)
         self.lane_at = places(self.queues)
         self.signal_at = places(self.signals)

@@ -1,25 +1,19 @@
 """Turns one behind another: CHOICES that are refused, and CHOICES that are a run."""
 
-from giveways.errors import NotReady, NoTask
-from giveways.play import Scene, beginning, is_ready, state_behind_turn
+from giveways.checks import check_tasks
+from giveways.errors import NotReady, NotWhole
+from giveways.play import Scene, beginning, is_ready, ready_tasks, state_behind_turn
 
 
-def check_task(plan, task):
-    """Refuse a string that is none of the tasks."""
-    if task not in plan.stand_at:
-        raise NoTask(task)
-
-
-def check_tasks(plan, names):
-    """Refuse the first string that is none of the tasks."""
-    for name in names:
-        check_task(plan, name)
+def check_ready(plan, state, task):
+    """Refuse a task that is not ready at this STATE."""
+    if not is_ready(Scene(plan, state), task):
+        raise NotReady(task)
 
 
 def checked_turn(plan, state, task):
     """The STATE behind the turn of this task, which may not be ready."""
-    if not is_ready(Scene(plan, state), task):
-        raise NotReady(task)
+    check_ready(plan, state, task)
     return state_behind_turn(plan, state, task)
 
 
@@ -32,17 +26,37 @@ def played(plan, choices):
     return row
 
 
-def state_behind(plan, thing):
-    """The STATE behind thing if it is CHOICES that are a run, otherwise None."""
+def states_if_run(plan, thing):
+    """The list of the STATES behind no turn, behind one, and so on, if thing is a run, otherwise None."""
     if not isinstance(thing, tuple):
         return None
-    state = beginning(plan)
+    row = [beginning(plan)]
     for task in thing:
         if not isinstance(task, str) or task not in plan.stand_at:
             return None
-        if not is_ready(Scene(plan, state), task):
+        if not is_ready(Scene(plan, row[-1]), task):
             return None
-        state = state_behind_turn(plan, state, task)
+        row.append(state_behind_turn(plan, row[-1], task))
+    return row
+
+
+def state_if_run(plan, thing):
+    """The STATE behind thing if it is CHOICES that are a run, otherwise None."""
+    row = states_if_run(plan, thing)
+    return row[-1] if row is not None else None
+
+
+def state_if_whole(plan, thing):
+    """The STATE behind thing if it is a whole run, otherwise None."""
+    state = state_if_run(plan, thing)
+    return state if state is not None and ready_tasks(plan, state) == () else None
+
+
+def told_by(plan, choices):
+    """What these CHOICES tell, which must be a whole run."""
+    state = played(plan, choices)[-1]
+    if ready_tasks(plan, state) != ():
+        raise NotWhole()
     return state
 
 

@@ -146,7 +146,7 @@ def row_from(head, piece):
         return task_from(piece)
     if head == "group":
         return group_from(piece)
-    return room_from(piece)
+    return room_from(piece) if head == "room" else None
 
 
 def task_from(piece):
@@ -157,7 +157,7 @@ def task_from(piece):
     if steps is None or not (len(words) == 2 or len(words) == 4 and words[2] == "in"):
         return None
     names = [words[1], *words[3:]]
-    if words[0] != "task" or not all([is_name(name) for name in names]):
+    if not all([is_name(name) for name in names]):
         return None
     return (names[0], names[1] if len(names) == 2 else "", steps)
 
@@ -165,7 +165,7 @@ def task_from(piece):
 def group_from(piece):
     """The pair of the group of this piece, None if it is not so written."""
     words = piece.split(" ")
-    if len(words) != 4 or words[0] != "group" or words[2] != "of":
+    if len(words) != 4 or words[2] != "of":
         return None
     return (words[1], words[3]) if is_name(words[1]) and is_name(words[3]) else None
 
@@ -173,7 +173,7 @@ def group_from(piece):
 def room_from(piece):
     """The pair of the room of this piece, None if it is not so written."""
     words = piece.split(" ")
-    if len(words) != 3 or words[0] != "room" or not is_name(words[1]):
+    if len(words) != 3 or not is_name(words[1]):
         return None
     room = number_from(words[2])
     return (words[1], room) if room is not None and room >= 1 else None

@@ -1,6 +1,6 @@
 """All STATES behind the runs of a small HOUSE, and the turns that lead from one to another."""
 
-from giveways.play import beginning, ready_tasks, state_behind_turn
+from giveways.play import NUMBER, beginning, ready_tasks, state_behind_turn
 
 
 class Web:
@@ -73,3 +73,14 @@ def least_runs(web):
 def first_run(web, places):
     """The least run to the first of these places, None if there are none."""
     return least_runs(web)[places[0]] if places else None
+
+
+def turns_taking(web, mark):
+    """The pairs of the places of the STATES ahead of and behind each turn that takes this STEP."""
+    stand = web.plan.stand_at[mark[0]]
+    return [
+        (at, to)
+        for at, onward in enumerate(web.onward)
+        for task, to in onward
+        if task == mark[0] and web.rows[at][1][stand][NUMBER] == mark[1]
+    ]

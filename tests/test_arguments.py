@@ -5,6 +5,8 @@ import importlib
 import inspect
 import unittest
 
+from giveways.clash import same_paper
+from giveways.ends import fence
 from giveways.errors import HouseError
 from giveways.houses import after
 from giveways.texts import house_text
@@ -41,6 +43,34 @@ INTERFACE = {
         name), with_shield(house, task, first, last), without_shield(house, task, number), may_stop(house, task),
         may_fail(house, task), may_come_out(house, group), never_stopped(house), biting(house, task, name),
         is_never_cut(house, task), keeping_shields(house, task), least_shield(house, task)""",
+    "needs": """swaps(house, choices), swapped(house, choices, place), needs(house, choices, place), needed_by(house, choices,
+        place), rests_on(house, choices, place), need_pairs(house, choices), chain(house, choices, place, last),
+        is_chain(house, choices, thing), longest_chain(house, choices), layers(house, choices), is_part(house,
+        choices, thing), part_of(house, choices, places), part_first(house, choices, places), state_behind(house,
+        choices, places), how_many_parts(house, choices), all_parts(house, choices), put_off(house, choices, place),
+        brought_on(house, choices, place), are_alike(house, one, other), least_alike(house, choices),
+        how_many_alike(house, choices), fewest_swaps(house, one, other), swap_row(house, one, other),
+        is_swap_row(house, one, other, thing), run_against(house, mark, goal), surely_ahead(house, mark, goal),
+        is_run_against(house, mark, goal, thing)""",
+    "clash": """do_clash(house, choices, one, other), clashes(house, choices), shut_by(house, choices, task), both_ways(house,
+        choices, one, other), parted(state, later), rivals(house, choices, number), turning_places(house, choices),
+        is_same(house), is_calm(house, choices), clash_paper(house, choices), is_clash_paper(house, choices, thing),
+        least_clash(house, choices), two_runs(house, choices, part, one, other), against(house), is_against(house,
+        thing), same_paper(house), is_same_paper(house, thing), clashing_steps(house), clash_run(house, mark, far),
+        is_decided(house, choices), decided_at(house, choices)""",
+    "orders": """how_many_runs(house), all_runs(house), nth_run(house, number), place_of(house, choices), runs_on(house,
+        choices), all_states(house), states_at(house, number), most_ready(house), forks(house), shortest(house),
+        longest(house), sure_turns(house), ends_told(house), how_many_tell(house, state), share(house, state),
+        chance(house, state), classes(house), least_run(house, state), least_beginning(house, state), ends_left(house,
+        choices), changed_run(house, choices, state), fewest_changed(house, choices, state), is_changed_run(house,
+        choices, state, thing), how_many_with(house, mark), turns_of(house, mark), how_many_ahead(house, one, other)""",
+    "ends": """live(house, state), is_waiting(house, state, task), waits_for(house, state, task), could_stop(house, state,
+        task), row_of_waits(house, state, task), in_rings(house, state), is_knot(house, state, thing),
+        greatest_knot(house, state), lost_from(house, choices, task), fates(house, task), run_to_fate(house, task,
+        status), is_run_to_fate(house, task, status, thing), surely_over(house, task), standing_run(house),
+        fence(house), is_fence(house, thing), words_told(house, group), run_with_words(house, group, words),
+        is_run_with_words(house, group, words, thing), run_to_failed(house, some), is_run_to_failed(house, some,
+        thing)""",
 }
 HOUSE = built({"a": [("start", "b"), ("put", "q"), ("get", "q", 4), ("close", "g")],
                "b in g": [("in",), ("join", "c", ()), ("out",), ("fail", "w")], "c": [("set", "s"), ("hear", "s", ())]},
@@ -51,7 +81,10 @@ WORTHS = {
     "number": 1, "group": "g", "queue": "q", "room": 3, "name": "z", "steps": (("get", "q", ()), ("join", "a", 2)),
     "step": ("hear", "s", ()), "mark": ("a", 2), "signal": "s", "moments": (7,), "end": 9, "first": 1, "last": 1,
     "marks": (("b", 1), ("a", 0), ("b", 1)), "names": ("a", "b", "a"), "text": "a 0, b 1",
+    "place": 1, "places": (3,), "goal": ("b", 3), "far": ("c", 0), "later": after(HOUSE, RUN[:3]), "status": "failed",
+    "some": ("a", "b"), "words": ("w",), "one": "a", "other": "b", "part": (0, 1),
 }
+LOCK = built({"a": [("put", "q"), ("get", "q", ())], "b": [("put", "q"), ("get", "q", ())]}, {}, {"q": 1})
 WHOLE = ("a", "a", "a", "b", "c", "c", "b", "b", "b", "a")
 OWN = {
     "turn": {"task": "a"}, "told": {"choices": WHOLE}, "without_task": {"house": built({"a": [("give",)], "b": [("give",)]})},
@@ -61,18 +94,33 @@ OWN = {
     "is_blame": {"choices": WHOLE, "task": "a"}, "how_many_blames": {"choices": WHOLE, "task": "a"},
     "first_causes": {"choices": WHOLE, "task": "a"}, "asked": {"choices": WHOLE[:-1], "task": "a"},
     "without_shield": {"number": 0}, "hosted": {"task": "a"}, "below": {"task": "a"}, "may_fail": {"task": "a"},
+    "swapped": {"choices": RUN, "place": 2}, "chain": {"place": 0, "last": 3}, "rivals": {"number": 2},
+    "shut_by": {"task": "c"}, "do_clash": {"choices": RUN[:2]}, "both_ways": {"choices": RUN[:2]},
+    **{name: {"one": RUN, "other": ("a", "a", "b", "c")} for name in ("are_alike", "fewest_swaps", "swap_row", "is_swap_row")},
+    **{name: {"choices": WHOLE} for name in ("is_calm", "clash_paper", "is_clash_paper", "least_clash", "place_of")},
+    "two_runs": {"house": LOCK, "choices": ("a", "a", "b", "b"), "part": ()},
+    **{name: {"state": after(HOUSE, WHOLE)} for name in ("how_many_tell", "share", "chance", "least_beginning")},
+    **{name: {"choices": WHOLE, "state": after(HOUSE, WHOLE)} for name in ("fewest_changed", "changed_run", "is_changed_run")},
+    "how_many_ahead": {"one": ("a", 1), "other": ("b", 1)}, "waits_for": {"task": "b"}, "lost_from": {"task": "b"},
     "got_by": {"choices": WHOLE}, "gets_of": {"choices": WHOLE}, "heard_by": {"choices": WHOLE},
 }
 THINGS = {
     "is_run": RUN, "is_whole": RUN, "is_step": ("get", "q", ()), "is_script": (("give",),), "is_house": HOUSE,
     "is_miss": WHOLE, "is_unset_run": WHOLE, "is_fullest": ("a", "a"),
     "is_blame": (("a", "group", ("a", 3)), ("b", "own", ("b", 3))),
+    "is_chain": (0, 1), "is_part": (0, 3), "is_swap_row": (RUN, ("a", "a", "b", "c")), "is_run_against": RUN,
+    "is_clash_paper": ((), "a", "b"), "is_against": (WHOLE, WHOLE), "is_same_paper": same_paper(HOUSE), "is_changed_run": WHOLE,
+    "is_knot": (), "is_run_to_fate": WHOLE, "is_fence": fence(HOUSE), "is_run_with_words": WHOLE, "is_run_to_failed": WHOLE,
 }
+FALSE = ("is_whole", "is_miss", "is_unset_run", "is_run_against", "is_clash_paper", "is_against")
 # Of these the document says that they tell a list.
-TELL_LISTS = ("states", "keeping_shields")
+TELL_LISTS = ("states", "keeping_shields", "all_parts", "all_runs", "all_states", "states_at", "ends_told", "classes", "ends_left")
 SMALL = ("can_get", "can_miss", "is_miss", "can_set", "unset_run", "is_unset_run", "can_be_late", "surely_late", "soonest_over",
          "latest_over", "fullest", "most_lying", "is_fullest", "least_room", "may_stop", "may_fail", "may_come_out",
-         "never_stopped", "biting", "is_never_cut", "keeping_shields", "least_shield")
+         "never_stopped", "biting", "is_never_cut", "keeping_shields", "least_shield", "all_parts", "how_many_alike",
+         "surely_ahead", "run_against", "is_run_against", "is_same", "is_calm", "clash_paper", "is_clash_paper", "least_clash",
+         "two_runs", "against", "same_paper", "is_same_paper", "clashing_steps", "clash_run", "is_decided", "decided_at", "fates",
+         "run_to_fate", "surely_over", "standing_run", "fence", "words_told", "run_with_words", "run_to_failed")
 
 
 def functions():
@@ -108,7 +156,7 @@ class Interface(unittest.TestCase):
                 self.assertIs(parameter.default, inspect.Parameter.empty)
 
     def test_all_are_there(self):
-        self.assertEqual(len(list(functions())), 23 + 24 + 8 + 30 + 24)
+        self.assertEqual(len(list(functions())), 23 + 24 + 8 + 30 + 24 + 27 + 21 + 26 + 21)
 
     def test_the_worths_are_not_refused(self):
         """Each call with the worths of this file tells something, or the tests below would hold little."""
@@ -116,7 +164,7 @@ class Interface(unittest.TestCase):
             told = result(getattr(module, name), *worths(name, names))
             self.assertFalse(isinstance(told, tuple) and told[:1] and str(told[0]).startswith("No"), (name, told))
             self.assertNotEqual(told, ("Unfit", {}), name)
-            if name in THINGS and name not in ("is_whole", "is_miss", "is_unset_run"):
+            if name in THINGS and name not in FALSE:
                 self.assertIs(told, True, name)
 
     def test_by_names_as_by_places(self):
@@ -163,7 +211,7 @@ class Lists(unittest.TestCase):
             more = {"house": house, "state": state, "choices": run, "task": house[0][0][0],
                     "row": tuple(row[0] for row in house[0])}
             for module, name, names in functions():
-                if name in SMALL and number < 30:
+                if (name in SMALL or module.__name__ == "giveways.orders") and number < 30:
                     continue
                 args = [{**WORTHS, **more, "thing": run}[key] for key in names]
                 swapped = [arg if key == "thing" else listed(arg) for key, arg in zip(names, args)]
@@ -187,7 +235,7 @@ class Unchanged(unittest.TestCase):
         wrong = {"task": "zed", "choices": ["c", "zed", "a"], "name": "a", "number": 99, "group": "zed",
                  "steps": [["in"]], "step": ["out"]}
         for module, name, names in functions():
-            args = [listed({**WORTHS, **wrong}.get(key, RUN)) for key in names]
+            args = [listed({**WORTHS, **OWN.get(name, {}), **wrong}.get(key, RUN)) for key in names]
             held = copy.deepcopy(args)
             result(getattr(module, name), *args)
             self.assertEqual(args, held, name)

@@ -9,8 +9,8 @@ import unittest
 from giveways.errors import HouseError
 
 HERE = pathlib.Path(__file__).resolve().parent
-SECTIONS = {"03": 5, "04": 6, "05": 8, "06": 7}
-MODULES = ("houses", "scripts", "texts", "lanes", "groups")
+SECTIONS = {"03": 5, "04": 6, "05": 8, "06": 7, "07": 8, "08": 7, "09": 9, "10": 6}
+MODULES = ("houses", "scripts", "texts", "lanes", "groups", "needs", "clash", "orders", "ends")
 
 
 def functions():
