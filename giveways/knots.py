@@ -63,8 +63,10 @@ def stoppers_at(plan, state, task):
 def line_of(plan, task):
     """This task, the host of its group, the host of that one's group, and so on."""
     line = [task]
-    while plan.hosts[line[-1]] != ():
-        line.extend(plan.hosts[line[-1]])
+    above = plan.hosts[task]
+    while above != ():
+        line.append(above[0])
+        above = plan.hosts[above[0]]
     return line
 
 

@@ -245,11 +245,7 @@ def is_row_of_places(thing, many):
 
 def is_part_by(told, thing):
     """Whether thing is a PART, by the needs of the turns."""
-    if not is_row_of_places(thing, len(told)):
-        return False
-    if not all([thing[at - 1] < thing[at] for at in range(1, len(thing))]):
-        return False
-    return thing == part_with(told, thing)
+    return is_row_of_places(thing, len(told)) and thing == part_with(told, thing)
 
 
 def longest_and_least(chains):

@@ -131,14 +131,14 @@ def chance(house, state):
 def classes(house):
     """The least run of each class and how many runs are in it, ascending."""
     web = web_of(Plan(tupled(house)))
-    left = {run: True for run in whole_runs(web)}
+    found = {}
     told = []
-    for run in list(left):
-        if run in left:
+    for run in whole_runs(web):
+        if run not in found:
             lot = class_of(web, run)
             told.append((run, len(lot)))
             for other in lot:
-                del left[other]
+                found[other] = True
     return told
 
 

@@ -210,6 +210,7 @@ class Papers(unittest.TestCase):
             papers = papers_of(house, run, far)
             one = clash_paper(house, run)
             self.assertTrue(one in papers if papers else one is None, (house, run))
+            self.assertIs(is_clash_paper(house, run, one), bool(papers))
             best = min(papers, key=lambda paper: (len(paper[0]), paper), default=None)
             self.assertEqual(least_clash(house, run), best)
             for paper in papers:

@@ -255,6 +255,7 @@ class Fates(unittest.TestCase):
                     right = [tuple(play.turns) for play in wholes if play.status[name] == status]
                     run = run_to_fate(house, name, status)
                     self.assertTrue(run in right if right else run is None)
+                    self.assertIs(is_run_to_fate(house, name, status, run), bool(right))
                 seen |= known
                 if is_same(house):
                     self.assertEqual(len(known), 1)
@@ -292,6 +293,7 @@ class Fates(unittest.TestCase):
                 right = [tuple(play.turns) for play in wholes if {play.status[name] for name in some} <= {"failed"}]
                 run = run_to_failed(house, some)
                 self.assertTrue(run in right if right else run is None)
+                self.assertIs(is_run_to_failed(house, some, run), bool(right))
                 seen.add((len(some), bool(right)))
                 for other in turns(every)[-4:]:
                     self.assertIs(is_run_to_failed(house, some, other), other in right)
@@ -319,6 +321,7 @@ class Words(unittest.TestCase):
                     right = [run for run in told if told[run] == words]
                     run = run_with_words(house, group, words)
                     self.assertTrue(run in right if right else run is None)
+                    self.assertIs(is_run_with_words(house, group, words, run), bool(right))
                     for other in turns(every)[-5:]:
                         self.assertIs(is_run_with_words(house, group, words, other), other in right)
                 seen |= set(told.values())
@@ -349,8 +352,12 @@ class Fences(unittest.TestCase):
             told = fence(house)
             if len(told) > 30:
                 continue
+            known = {tuple(play.turns): play.state() for play in every}
             for at in range(len(told)):
                 self.assertFalse(is_fence(house, told[:at] + told[at + 1:]))
+                elsewhere = [run for run in known if known[run] != known[told[at]] and run not in told][:1]
+                if elsewhere:
+                    self.assertFalse(is_fence(house, tuple(sorted([*told[:at], *told[at + 1:], *elsewhere]))))
             for wrong in (("zed",), (task_names(house)[0],) * 9, "ann", ("ann", 1), ["ann"], None, (None,)):
                 rows = [*told, wrong]
                 if isinstance(wrong, tuple) and None not in wrong and 1 not in wrong:

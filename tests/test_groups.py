@@ -161,6 +161,7 @@ class Blames(unittest.TestCase):
                 self.assertEqual(first_causes(house, run, name), tuple(sorted({told[-1][2] for told in known})))
                 one = blame(house, run, name)
                 self.assertTrue(one in known if known else one is None)
+                self.assertIs(is_blame(house, run, name, one), bool(known))
                 for told in known:
                     self.assertTrue(is_blame(house, run, name, told))
                 whys.update(triple[1] for told in known for triple in told)

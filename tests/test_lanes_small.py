@@ -30,6 +30,7 @@ class Lanes(unittest.TestCase):
                 missed = [run for run, put in zip(turns(wholes), got) if put is None]
                 run = can_miss(house, mark)
                 self.assertTrue(run in missed if missed else run is None)
+                self.assertIs(is_miss(house, mark, run), bool(missed))
                 seen.add((bool(missed), len(set(got) - {None})))
         self.assertLessEqual({(True, 0), (True, 1), (False, 1), (False, 2), (True, 2)}, seen)
 
@@ -37,7 +38,7 @@ class Lanes(unittest.TestCase):
         for house, plays, wholes in walked()[:40]:
             for mark in marks_of(house, "get")[:1]:
                 right = [tuple(play.turns) for play in wholes if mark not in [event[1] for event in play.events("got")]]
-                judged(self, lambda thing: is_miss(house, mark, thing), right[:20], [])
+                judged(self, lambda thing: is_miss(house, mark, thing), right)
                 for play in plays:
                     run = tuple(play.turns)
                     self.assertEqual(is_miss(house, mark, run), run in right)
@@ -50,6 +51,7 @@ class Lanes(unittest.TestCase):
                 unset = [run for run, mark in zip(turns(wholes), setters) if not mark]
                 run = unset_run(house, signal)
                 self.assertTrue(run in unset if unset else run is None)
+                self.assertIs(is_unset_run(house, signal, run), bool(unset))
 
     def test_is_unset_run(self):
         for house, plays, wholes in walked()[:60]:
@@ -92,6 +94,7 @@ class Lanes(unittest.TestCase):
                 self.assertEqual(most_lying(house, queue), most)
                 full = [tuple(play.turns) for play in plays if len(play.lying[queue]) == most]
                 self.assertIn(fullest(house, queue), full)
+                self.assertTrue(is_fullest(house, queue, fullest(house, queue)))
 
     def test_is_fullest(self):
         for house, plays, _ in walked()[:40]:

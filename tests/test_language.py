@@ -180,3 +180,63 @@ class Language(unittest.TestCase):
         self.assertLessEqual({"begin", "told", "is_fair"}, self.defined["houses"])
         self.assertLessEqual({"is_step", "is_house", "with_room"}, self.defined["scripts"])
         self.assertLessEqual({"HouseError", "Unfit"}, self.defined["errors"])
+
+
+class Places(unittest.TestCase):
+    """L23 and L24: where what is iterated at once, and sets, may stand."""
+
+    AT_ONCE = ("zip", "enumerate", "reversed", "range", "items", "keys", "values")
+    TAKERS = ("list", "tuple", "dict", "sorted", "sum", "any", "all", "enumerate", "zip", "reversed", "len", "min", "max")
+    CHANGING = ("append", "clear", "extend", "insert", "pop", "remove", "reverse", "setdefault", "update", "sort")
+
+    @classmethod
+    def setUpClass(cls):
+        cls.trees = {path.stem: ast.parse(path.read_text(encoding="utf-8")) for path in sorted(FOLDER.glob("*.py"))}
+
+    def nodes(self):
+        for name, tree in self.trees.items():
+            parents = {part: node for node in ast.walk(tree) for part in ast.iter_child_nodes(node)}
+            for node in ast.walk(tree):
+                yield f"{name}:{getattr(node, 'lineno', 0)}", node, parents.get(node)
+
+    @staticmethod
+    def called(node):
+        if not isinstance(node, ast.Call):
+            return None
+        return node.func.id if isinstance(node.func, ast.Name) else getattr(node.func, "attr", None)
+
+    def test_iterated_at_once(self):
+        for place, node, parent in self.nodes():
+            if self.called(node) in self.AT_ONCE:
+                is_looped = isinstance(parent, (ast.For, ast.comprehension)) and parent.iter is node
+                is_taken = self.called(parent) in self.TAKERS and parent.args[0] is node
+                self.assertTrue(is_looped or is_taken, place)
+                if self.called(parent) == "reversed":
+                    self.assertEqual(self.called(node), "range", place)
+
+    def test_sets(self):
+        for place, node, parent in self.nodes():
+            if isinstance(node, (ast.Set, ast.SetComp)) or self.called(node) == "set":
+                self.assertIn(self.called(parent), ("sorted", "len"), place)
+
+    def test_what_is_looped_over_is_not_changed(self):
+        for place, node, _ in self.nodes():
+            if isinstance(node, ast.For):
+                looped = {ast.unparse(part) for part in ast.walk(node.iter) if isinstance(part, (ast.Name, ast.Attribute))}
+                for part in [inner for row in node.body for inner in ast.walk(row)]:
+                    if isinstance(part, ast.Call) and isinstance(part.func, ast.Attribute) and part.func.attr in self.CHANGING:
+                        self.assertNotIn(ast.unparse(part.func.value), looped, place)
+                    for target in getattr(part, "targets", []):
+                        if isinstance(target, ast.Subscript):
+                            self.assertNotIn(ast.unparse(target.value), looped, place)
+
+    def test_extended_by_something_else(self):
+        for place, node, _ in self.nodes():
+            if self.called(node) in ("extend", "update"):
+                told = {ast.unparse(part) for arg in node.args for part in ast.walk(arg) if isinstance(part, ast.Name)}
+                self.assertNotIn(ast.unparse(node.func.value), told, place)
+
+    def test_no_class_has_the_attributes_of_later_ones(self):
+        for place, node, _ in self.nodes():
+            if isinstance(node, ast.Attribute):
+                self.assertNotIn(node.attr, ("keys", "sort", "__class__", "__name__"), place)

@@ -80,7 +80,7 @@ class Needs(unittest.TestCase):
             if known is None or len(known) > 150:
                 continue
             for place in range(len(run)):
-                for last in range(len(run)):
+                for last in range(place % 3, len(run), 3):
                     some = [row for row in known if (row[0], row[-1]) == (place, last)]
                     row = chain(house, run, place, last)
                     self.assertTrue(row in some if some else row is None)
@@ -188,7 +188,7 @@ class Alike(unittest.TestCase):
         many = 0
         for house, run, known, far in walked_runs(1):
             other = max(far, key=far.get)
-            if not 1 <= far[other] <= 5 or many >= 25:
+            if not 1 <= far[other] <= 5 or many >= 22:
                 continue
             rows = [(run,)]
             for _ in range(far[other]):
@@ -264,6 +264,7 @@ class SurelyAhead(unittest.TestCase):
                     self.assertIs(surely_ahead(house, mark, goal), not against)
                     run = run_against(house, mark, goal)
                     self.assertTrue(run in against if against else run is None)
+                    self.assertIs(is_run_against(house, mark, goal, run), bool(against))
                     seen.add((bool(ending), bool(against)))
         self.assertEqual(seen, {(False, False), (True, False), (True, True)})
 

@@ -3,11 +3,12 @@
 import unittest
 
 from giveways.errors import BadText, Unfit
+from giveways.houses import marks
 from giveways.scripts import is_house, is_script
 from giveways.texts import (
     house_from, house_text, marks_from, marks_text, names_from, names_text, script_from, script_text,
 )
-from tests.made import Row, built, listed, made_house, small_house
+from tests.made import Row, built, listed, made_house, made_run, small_house
 
 STEPS = {
     "give": ("give",), "put q": ("put", "q"), "get q": ("get", "q", ()), "get q 0": ("get", "q", 0),
@@ -108,6 +109,9 @@ class Houses(unittest.TestCase):
             self.assertTrue(is_house(house_from(house_text(house))))
             for task, group, steps in house[0]:
                 self.assertEqual(script_from(script_text(steps)), steps)
+            run = made_run(house, number)
+            self.assertEqual(names_from(names_text(run)), run)
+            self.assertEqual(marks_from(marks_text(marks(house, run))), marks(house, run))
 
     def test_names_that_are_words(self):
         house = built({"in": [("in",), ("out",)], "task": [("start", "room"), ("catch", "of")], "room in of": []},
