@@ -27,6 +27,6 @@ def sole_ends(web):
         sole[at] = at
     for at in reversed(range(len(web.rows))):
         lasting = [sole[to] for task, to in web.onward[at]]
-        if lasting and None not in lasting and len(set(lasting)) == 1:
+        if len(set(lasting)) == 1:
             sole[at] = lasting[0]
     return sole
