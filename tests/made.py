@@ -162,3 +162,13 @@ def judged(case, judge, right, others=()):
     for thing in list(right)[:3]:
         for other in spoilt(thing):
             case.assertEqual(judge(other), repr(other) in known, other)
+
+
+class Refusing:
+    """Tests of what a call refuses: the class of its error, and the one value that it has, None if it has none."""
+
+    def refused(self, kind, worth, function, *args):
+        with self.assertRaises(kind) as caught:
+            function(*args)
+        self.assertIs(type(caught.exception), kind)
+        self.assertEqual(list(vars(caught.exception).values()), [] if worth is None else [worth])

@@ -114,7 +114,8 @@ THINGS = {
 }
 FALSE = ("is_whole", "is_miss", "is_unset_run", "is_run_against", "is_clash_paper", "is_against")
 # Of these the document says that they tell a list.
-TELL_LISTS = ("states", "keeping_shields", "all_parts", "all_runs", "all_states", "states_at", "ends_told", "classes", "ends_left")
+TELL_LISTS = ("states", "keeping_shields", "all_parts", "all_runs", "all_states", "states_at", "ends_told", "classes",
+              "ends_left")
 SMALL = ("can_get", "can_miss", "is_miss", "can_set", "unset_run", "is_unset_run", "can_be_late", "surely_late", "soonest_over",
          "latest_over", "fullest", "most_lying", "is_fullest", "least_room", "may_stop", "may_fail", "may_come_out",
          "never_stopped", "biting", "is_never_cut", "keeping_shields", "least_shield", "all_parts", "how_many_alike",

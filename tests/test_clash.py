@@ -12,7 +12,7 @@ from giveways.houses import after, gone_on, told
 from giveways.needs import needs
 from giveways.scripts import all_marks, task_names
 from tests.alike import marks_of, needs_of, parts_of, walked_runs
-from tests.made import built, judged, listed, made_house, made_run
+from tests.made import Refusing, built, judged, listed, made_house, made_run
 from tests.plain import played
 from tests.walked import turns, walked
 
@@ -297,13 +297,8 @@ class Steps(unittest.TestCase):
         self.assertLessEqual({None, 0, 1, 2, 3}, seen)
 
 
-class Errors(unittest.TestCase):
+class Errors(Refusing, unittest.TestCase):
     house = built({"a": [("put", "q"), ("give",)], "b": [("get", "q", ())], "c": [("give",)]})
-
-    def refused(self, kind, worth, function, *args):
-        with self.assertRaises(kind) as caught:
-            function(*args)
-        self.assertEqual(list(vars(caught.exception).values()), [] if worth is None else [worth])
 
     def test_choices(self):
         rows = ((do_clash, "a", "c"), (clashes,), (shut_by, "a"), (both_ways, "a", "c"), (rivals, 99), (turning_places,),

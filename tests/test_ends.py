@@ -12,7 +12,7 @@ from giveways.ends import (
 from giveways.errors import NoGroup, NotReady, NoTask
 from giveways.houses import after, begin
 from giveways.scripts import task_names
-from tests.made import built, judged, listed, made_house, made_run
+from tests.made import Refusing, built, judged, listed, made_house, made_run
 from tests.plain import group_mates, group_tasks, hosted_tasks, played, script
 from tests.walked import turns, walked
 
@@ -391,13 +391,8 @@ class Fences(unittest.TestCase):
         judged(self, lambda thing: is_fence(still, thing), [((),)])
 
 
-class Errors(unittest.TestCase):
+class Errors(Refusing, unittest.TestCase):
     house = built({"a": [("start", "b"), ("close", "g")], "b in g": [("give",)], "c": [("hear", "s", ())]}, {"g": "a"})
-
-    def refused(self, kind, worth, function, *args):
-        with self.assertRaises(kind) as caught:
-            function(*args)
-        self.assertEqual(list(vars(caught.exception).values()), [] if worth is None else [worth])
 
     def test_tasks(self):
         state = begin(self.house)

@@ -10,7 +10,7 @@ from giveways.groups import (
 )
 from giveways.houses import after
 from giveways.scripts import is_house, script_of, task_names, with_step, without_step
-from tests.made import built, judged, listed, made_house, made_run
+from tests.made import Refusing, built, judged, listed, made_house, made_run
 from tests.plain import group_mates, group_tasks, hosted_tasks, played, script
 from tests.walked import walked
 
@@ -295,14 +295,9 @@ class Guarantees(unittest.TestCase):
                         self.assertEqual(script(house, mark[0])[mark[1]], ("cancel", name))
 
 
-class Errors(unittest.TestCase):
+class Errors(Refusing, unittest.TestCase):
     house = built({"a": [("start", "b"), ("hear", "s", ()), ("close", "g")], "b in g": [("in",), ("give",), ("out",)],
                    "c": [("give",)]}, {"g": "a"})
-
-    def refused(self, kind, worth, function, *args):
-        with self.assertRaises(kind) as caught:
-            function(*args)
-        self.assertEqual(list(vars(caught.exception).values()), [] if worth is None else [worth])
 
     def test_task(self):
         house = self.house

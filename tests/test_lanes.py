@@ -10,7 +10,7 @@ from giveways.lanes import (
     surely_late, taken_by, unset_run, wait_of, waits, with_end, with_moments,
 )
 from giveways.scripts import all_marks, is_house, queue_names, signal_names, task_names, with_room
-from tests.made import built, listed, made_house, made_run
+from tests.made import Refusing, built, listed, made_house, made_run
 from tests.plain import group_tasks, played, script
 
 WAITS = {"put": "room", "get": "item", "hear": "signal", "join": "over", "until": "clock"}
@@ -206,14 +206,9 @@ class Moments(unittest.TestCase):
         self.assertEqual(with_end(self.house, ["a", 1], []), with_end(self.house, ("a", 1), ()))
 
 
-class Errors(unittest.TestCase):
+class Errors(Refusing, unittest.TestCase):
     house = built({"a": [("put", "q"), ("get", "q", 5)], "b": [("hear", "s", ()), ("give",)], "c": [("set", "s")]},
                   {}, {"r": 1})
-
-    def refused(self, kind, worth, function, *args):
-        with self.assertRaises(kind) as caught:
-            function(*args)
-        self.assertEqual(list(vars(caught.exception).values()), [] if worth is None else [worth])
 
     def test_choices(self):
         rows = ((wait_of, "a"), (waits,), (end_of, "a"), (puts_of, "q"), (gets_of, "q"), (lying, "q"), (got_by, ("a", 1)),

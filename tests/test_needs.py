@@ -12,7 +12,7 @@ from giveways.needs import (
 )
 from giveways.scripts import all_marks, queue_names, starter_of, step_of, task_names
 from tests.alike import distances, marks_of, needs_of, parts_of, swapped_at, swaps_of, walked_runs
-from tests.made import Row, built, judged, listed, made_house, made_run
+from tests.made import Refusing, Row, built, judged, listed, made_house, made_run
 from tests.walked import walked
 
 HOUSES = 60
@@ -296,13 +296,8 @@ class SurelyAhead(unittest.TestCase):
         self.assertGreater(many, 20)
 
 
-class Errors(unittest.TestCase):
+class Errors(Refusing, unittest.TestCase):
     house = built({"a": [("put", "q"), ("give",)], "b": [("get", "q", ())], "c": [("give",)]})
-
-    def refused(self, kind, worth, function, *args):
-        with self.assertRaises(kind) as caught:
-            function(*args)
-        self.assertEqual(list(vars(caught.exception).values()), [] if worth is None else [worth])
 
     def test_choices(self):
         rows = ((swaps,), (swapped, 9), (needs, 9), (needed_by, 9), (rests_on, 9), (need_pairs,), (chain, 9, 9), (is_chain, 0),

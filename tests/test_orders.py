@@ -13,7 +13,7 @@ from giveways.orders import (
 )
 from giveways.scripts import all_marks
 from tests.alike import distances, marks_of
-from tests.made import Row, built, judged, listed
+from tests.made import Refusing, Row, built, judged, listed
 from tests.walked import turns, walked
 
 
@@ -29,7 +29,8 @@ def unlike(run, other):
 def strange_states(state):
     """Tuples shaped like a STATE that are no end."""
     clock, stands, lanes, signals = state
-    return [(clock + 1, stands, lanes, signals), (clock, stands[:-1], lanes, signals), (clock, stands, lanes + (("zz", (), 0),), signals),
+    return [(clock + 1, stands, lanes, signals), (clock, stands[:-1], lanes, signals),
+            (clock, stands, lanes + (("zz", (), 0),), signals),
             (clock, (), (), ()), (clock, ((stands[0][0], "gone") + stands[0][2:],) + stands[1:], lanes, signals)]
 
 
@@ -93,7 +94,8 @@ class States(unittest.TestCase):
         for house, plays, _ in walked():
             known = {}
             for play in plays:
-                self.assertEqual(known.setdefault(play.state(), sorted(marks_of(tuple(play.turns)))), sorted(marks_of(tuple(play.turns))))
+                taken = sorted(marks_of(tuple(play.turns)))
+                self.assertEqual(known.setdefault(play.state(), taken), taken)
 
     def test_sure_turns(self):
         seen = set()
@@ -264,13 +266,8 @@ class Marks(unittest.TestCase):
         self.assertEqual(seen, {(True, True), (True, False), (False, False)})
 
 
-class Errors(unittest.TestCase):
+class Errors(Refusing, unittest.TestCase):
     house = built({"a": [("put", "q"), ("give",)], "b": [("get", "q", ())], "c": [("give",)]})
-
-    def refused(self, kind, worth, function, *args):
-        with self.assertRaises(kind) as caught:
-            function(*args)
-        self.assertEqual(list(vars(caught.exception).values()), [] if worth is None else [worth])
 
     def test_choices(self):
         state = after(self.house, ())

@@ -231,7 +231,8 @@ class Marks(unittest.TestCase):
             self.assertEqual(piece_of(marks_from, "b 0, " + wrong), 1, wrong)
             self.assertEqual(piece_of(marks_from, "b 0, c 3, " + wrong + ", d 1"), 2, wrong)
             self.assertEqual(piece_of(marks_from, wrong + ", b 0"), 0, wrong)
-        for text, piece in (("a 1,b 2", 0), ("a 1 , b 2", 0), ("a 1,  b 2", 1), ("-, a 1", 0), ("a 1, -", 1), ("a 1; b 2", 0)):
+        for text, piece in (("a 1,b 2", 0), ("a 1 , b 2", 0), ("a 1,  b 2", 1), ("-, a 1", 0), ("a 1, -", 1),
+                            ("a 1; b 2", 0)):
             self.assertEqual(piece_of(marks_from, text), piece, text)
 
 
