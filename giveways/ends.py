@@ -1,5 +1,6 @@
 """Ends: who is live, who waits for whom, KNOTS and FENCES, and what becomes of a task behind all whole runs."""
 
+from giveways.bonds import led_to
 from giveways.checks import check_task, check_tasks
 from giveways.diaries import is_over_at, row_at, words_told_at
 from giveways.knots import greatest_knot_at, is_held_in, is_waiting_at, live_at, stoppers_at, waited_at
@@ -185,15 +186,3 @@ def is_run_to_failed(house, some, thing):
 def have_failed(plan, state, some):
     """Whether each of some has failed."""
     return all([row_at(plan, state, task)[STATUS] == "failed" for task in some])
-
-
-def led_to(waited, task):
-    """The tasks to which waits, one or more, lead from this one."""
-    found = []
-    waiting = list(waited[task])
-    while waiting:
-        name = waiting.pop()
-        if name not in found:
-            found.append(name)
-            waiting.extend(waited[name])
-    return found

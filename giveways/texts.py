@@ -42,16 +42,7 @@ def script_from(text):
 
 def house_from(text):
     """The HOUSE that is so written."""
-    lots = {head: [] for head in HEADS}
-    front = (-1, "")
-    for at, piece in enumerate(pieces_of(text, "; ")):
-        head = piece.partition(" ")[0]
-        row = row_from(head, piece)
-        if row is None or (HEADS.index(head), row[0]) <= front:
-            raise BadText(at)
-        front = (HEADS.index(head), row[0])
-        lots[head].append(row)
-    house = (tuple(lots["task"]), tuple(lots["group"]), tuple(lots["room"]))
+    house = house_as_written(text)
     if not is_house(house):
         raise Unfit()
     return house
@@ -65,6 +56,20 @@ def names_from(text):
 def marks_from(text):
     """The row of MARKS that is so written."""
     return read_pieces(pieces_of(text, ", "), mark_from)
+
+
+def house_as_written(text):
+    """The tasks, groups and rooms that are so written, whether they make a HOUSE or not."""
+    lots = {head: [] for head in HEADS}
+    front = (-1, "")
+    for at, piece in enumerate(pieces_of(text, "; ")):
+        head = piece.partition(" ")[0]
+        row = row_from(head, piece)
+        if row is None or (HEADS.index(head), row[0]) <= front:
+            raise BadText(at)
+        front = (HEADS.index(head), row[0])
+        lots[head].append(row)
+    return (tuple(lots["task"]), tuple(lots["group"]), tuple(lots["room"]))
 
 
 def or_dash(text):
