@@ -17,7 +17,6 @@ from giveways.webs import ends_of_plan
 from giveways.woven import new_signals, own_diaries, woven_rows
 
 GIVE = ("give",)
-NAMING_WORDS = {"task": TASK_WORDS, "queue": QUEUE_WORDS, "signal": SIGNAL_WORDS, "group": CLOSING_WORDS}
 KINDS = ("task", "queue", "signal", "group")
 MOST_ORDERS = 3
 
@@ -90,7 +89,7 @@ def renamed(house, kind, pairs):
     news = {old: new for old, new in pairs}
     own, queued, grouped = [news if kind == word else {} for word in ("task", "queue", "group")]
     tasks, groups, rooms = tupled(house)
-    words = NAMING_WORDS[kind]
+    words = words_of_kind(kind)
     rows = [(own.get(task, task), grouped.get(group, group), renamed_steps(steps, words, news))
             for task, group, steps in tasks]
     return (
@@ -232,6 +231,15 @@ def names_of_kind(house, kind):
     if kind == "queue":
         return queue_names(house)
     return signal_names(house) if kind == "signal" else tuple([pair[0] for pair in house[1]])
+
+
+def words_of_kind(kind):
+    """The words of the STEPS that name something of this kind."""
+    if kind == "task":
+        return TASK_WORDS
+    if kind == "queue":
+        return QUEUE_WORDS
+    return SIGNAL_WORDS if kind == "signal" else CLOSING_WORDS
 
 
 def check_renamed(house, kind, pairs):

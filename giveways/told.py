@@ -144,7 +144,7 @@ def telling_tasks(house):
 
 
 def fewest_telling(house):
-    """Of the sets of tasks by whose accounts the end is known the least one of the fewest tasks, None if there is none."""
+    """Of the sets of telling tasks the least one of those with the fewest tasks, None if there are none."""
     return min(telling_tasks(house), key=lambda names: (len(names), names), default=None)
 
 

@@ -160,7 +160,7 @@ def unlike_tasks(house, one, other):
 
 
 def first_unlike(house, one, other):
-    """The least task and place of an ENTRY that is otherwise behind the other RUN, or missing there; None if none is."""
+    """The least task and place of an ENTRY that is otherwise behind the other RUN, or missing there, or None."""
     first, second = both_states(house, one, other)
     for row, far in zip(first[1], second[1]):
         if row[DIARY] != far[DIARY]:

@@ -9,6 +9,7 @@ from giveways.clash import same_paper
 from giveways.ends import fence
 from giveways.errors import HouseError
 from giveways.houses import after
+from giveways.sides import with_orders
 from giveways.texts import house_text
 from tests.made import built, listed, made_house, made_run, small_house
 
@@ -71,7 +72,34 @@ INTERFACE = {
         fence(house), is_fence(house, thing), words_told(house, group), run_with_words(house, group, words),
         is_run_with_words(house, group, words, thing), run_to_failed(house, some), is_run_to_failed(house, some,
         thing)""",
+    "sides": """beside(house, other), sides(house), side_of(house, task), beats(house, choices), unwoven(house, choices),
+        weavings(house, other, choices, others), renamed(house, kind, pairs), renamed_state(house, kind, pairs, state),
+        with_gives(house, task, number, many), without_gives(house), state_without_gives(house, state), heeds(house,
+        task), heeders(house, task), without_tasks(house, some), state_without_tasks(house, some, state),
+        with_orders(house, pairs), state_without_orders(house, pairs, state), mends(house, pairs),
+        fewest_orders(house)""",
+    "watch": """moments(house, choices), held_up(house, choices), changed(house, choices, number, task),
+        unlike_tasks(house, one, other), first_unlike(house, one, other), rest_of(house, one, other),
+        shortest_to(house, task, number)""",
+    "told": """is_end(house, thing), run_telling(house, state), is_run_telling(house, state, thing), classes_telling(house,
+        state), always_ahead(house, state), run_ahead(house, state, one, other), is_run_ahead(house, state, one, other,
+        thing), accounts_of(house, task), ends_with(house, accounts), sure_account(house, accounts, task),
+        was_taken(house, accounts, mark), order_by(house, accounts, one, other), telling_tasks(house),
+        fewest_telling(house), unlike_by(house, tasks), is_unlike_by(house, tasks, thing)""",
+    "edits": "is_edit(thing), edited(house, edit), undone_by(house, edit), do_commute(house, one, other)",
+    "claims": """is_claim(house, thing), paper(house, claim), stands(house, claim), is_paper(house, claim, thing),
+        all_standing(house), spoilers(house), props(house)""",
+    "desk": """entry_text(entry), claim_text(claim), edit_text(edit), claim_from(text), edit_from(text), is_request(thing),
+        replies(text)""",
 }
+CLASSES = {
+    "watch.Watch": """Watch(house), ready(), take(task), go(choices), back(), again(), to(number), state_at(number), diary(task),
+        twin()""",
+    "board.Board": """Board(), put(name, house), drop(name), rename(name, new), edit(name, edit), turn(name, task),
+        keep(name, claim), free(name, claim), undo(), twin(), run(name), claims(name), standing(name), lost(name),
+        sure(name), spoilt_by(name, edit), mended_by(name, edit), same(), alike()""",
+}
+PROPERTIES = {"watch.Watch": ("house", "choices", "state", "ahead"), "board.Board": ("names", "deeds")}
 HOUSE = built({"a": [("start", "b"), ("put", "q"), ("get", "q", 4), ("close", "g")],
                "b in g": [("in",), ("join", "c", ()), ("out",), ("fail", "w")], "c": [("set", "s"), ("hear", "s", ())]},
               {"g": "a"}, {"q": 2})
@@ -84,6 +112,12 @@ WORTHS = {
     "place": 1, "places": (3,), "goal": ("b", 3), "far": ("c", 0), "later": after(HOUSE, RUN[:3]), "status": "failed",
     "some": ("a", "b"), "words": ("w",), "one": "a", "other": "b", "part": (0, 1),
 }
+FAR = built({"x": [("give",)], "y": [("until", 3), ("put", "z")]}, {}, {"z": 1})
+LATE = built({"ann": [("put", "r")], "bo": [("get", "r", 0)], "cy": [("get", "r", ())]})
+END = after(LATE, ("bo", "ann", "cy"))
+RACE = built({"a": [("put", "q")], "b": [("put", "q")], "c": [("get", "q", ())]})
+LONE = built({"a": [("set", "s"), ("start", "c")], "b": [("hear", "s", ())], "c": [("hear", "s", ())]})
+ORDERS = ((("a", 0), ("b", 0)),)
 LOCK = built({"a": [("put", "q"), ("get", "q", ())], "b": [("put", "q"), ("get", "q", ())]}, {}, {"q": 1})
 WHOLE = ("a", "a", "a", "b", "c", "c", "b", "b", "b", "a")
 OWN = {
@@ -102,6 +136,23 @@ OWN = {
     **{name: {"state": after(HOUSE, WHOLE)} for name in ("how_many_tell", "share", "chance", "least_beginning")},
     **{name: {"choices": WHOLE, "state": after(HOUSE, WHOLE)} for name in ("fewest_changed", "changed_run", "is_changed_run")},
     "how_many_ahead": {"one": ("a", 1), "other": ("b", 1)}, "waits_for": {"task": "b"}, "lost_from": {"task": "b"},
+    "beside": {"other": FAR}, "weavings": {"other": FAR, "choices": WHOLE, "others": ("x", "y", "y")},
+    **{name: {"kind": "task", "pairs": (("a", "b"), ("b", "a"))} for name in ("renamed", "renamed_state")},
+    "with_gives": {"many": 2}, **{name: {"house": LONE, "some": ("c",), "state": after(LONE, ("a", "b"))}
+                                  for name in ("without_tasks", "state_without_tasks")},
+    **{name: {"house": RACE, "pairs": ORDERS, "state": after(with_orders(RACE, ORDERS), ("a", "a", "b"))}
+       for name in ("with_orders", "state_without_orders", "mends", "fewest_orders")},
+    **{name: {"one": RUN, "other": ("a", "a", "b", "c")} for name in ("unlike_tasks", "first_unlike")},
+    "rest_of": {"one": ("a",), "other": RUN}, "shortest_to": {"number": 2}, "changed": {"number": 2, "task": "b"},
+    **{name: {"house": LATE, "state": END, "one": ("cy", 0), "other": ("bo", 0), "task": "bo", "mark": ("cy", 0),
+              "accounts": (END[1][1],), "tasks": ("ann",)}
+       for name in ("is_end", "run_telling", "is_run_telling", "classes_telling", "always_ahead", "run_ahead", "is_run_ahead", "accounts_of",
+                    "ends_with", "sure_account", "was_taken", "order_by", "telling_tasks", "fewest_telling", "unlike_by", "is_unlike_by")},
+    **{name: {"edit": ("task", "z", "g", (("get", "q", ()),), ("a", 1))} for name in ("edited", "undone_by", "edit_text")},
+    "do_commute": {"one": ("in", "c", 0, ("hear", "q", ())), "other": ("out", "a", 1)},
+    **{name: {"claim": ("ahead", ("c", 1), ("b", 1))} for name in ("paper", "stands", "is_paper", "claim_text")},
+    "entry_text": {"entry": ("joined", "failed", ("v", "w"))}, "claim_from": {"text": "gets a 0, b 1"},
+    "edit_from": {"text": "task b in g by a 0: in"}, "replies": {"text": "put x task a: give\nturn x a\nsame"},
     "got_by": {"choices": WHOLE}, "gets_of": {"choices": WHOLE}, "heard_by": {"choices": WHOLE},
 }
 THINGS = {
@@ -110,18 +161,25 @@ THINGS = {
     "is_blame": (("a", "group", ("a", 3)), ("b", "own", ("b", 3))),
     "is_chain": (0, 1), "is_part": (0, 3), "is_swap_row": (RUN, ("a", "a", "b", "c")), "is_run_against": RUN,
     "is_clash_paper": ((), "a", "b"), "is_against": (WHOLE, WHOLE), "is_same_paper": same_paper(HOUSE), "is_changed_run": WHOLE,
+    "is_end": END, "is_run_telling": ("bo", "ann", "cy"), "is_run_ahead": ("ann", "cy", "bo"),
+    "is_unlike_by": (after(LATE, ("ann", "bo")), END), "is_edit": ("out", "a", 1), "is_claim": ("gets", ("a", 2), ("a", 1)),
+    "is_paper": WHOLE, "is_request": "edit x in a 0 give",
     "is_knot": (), "is_run_to_fate": WHOLE, "is_fence": fence(HOUSE), "is_run_with_words": WHOLE, "is_run_to_failed": WHOLE,
 }
-FALSE = ("is_whole", "is_miss", "is_unset_run", "is_run_against", "is_clash_paper", "is_against")
+FALSE = ("is_whole", "is_miss", "is_unset_run", "is_run_against", "is_clash_paper", "is_against",
+         "is_paper")
 # Of these the document says that they tell a list.
 TELL_LISTS = ("states", "keeping_shields", "all_parts", "all_runs", "all_states", "states_at", "ends_told", "classes",
-              "ends_left")
+              "ends_left", "classes_telling", "ends_with", "accounts_of", "telling_tasks", "replies")
 SMALL = ("can_get", "can_miss", "is_miss", "can_set", "unset_run", "is_unset_run", "can_be_late", "surely_late", "soonest_over",
          "latest_over", "fullest", "most_lying", "is_fullest", "least_room", "may_stop", "may_fail", "may_come_out",
          "never_stopped", "biting", "is_never_cut", "keeping_shields", "least_shield", "all_parts", "how_many_alike",
          "surely_ahead", "run_against", "is_run_against", "is_same", "is_calm", "clash_paper", "is_clash_paper", "least_clash",
          "two_runs", "against", "same_paper", "is_same_paper", "clashing_steps", "clash_run", "is_decided", "decided_at", "fates",
-         "run_to_fate", "surely_over", "standing_run", "fence", "words_told", "run_with_words", "run_to_failed")
+         "run_to_fate", "surely_over", "standing_run", "fence", "words_told", "run_with_words", "run_to_failed", "mends",
+         "fewest_orders", "rest_of", "shortest_to", "is_end", "run_telling", "is_run_telling", "classes_telling", "always_ahead",
+         "run_ahead", "is_run_ahead", "accounts_of", "ends_with", "sure_account", "was_taken", "order_by", "telling_tasks",
+         "fewest_telling", "unlike_by", "is_unlike_by", "paper", "stands", "is_paper", "all_standing", "spoilers", "props")
 
 
 def functions():
@@ -157,7 +215,7 @@ class Interface(unittest.TestCase):
                 self.assertIs(parameter.default, inspect.Parameter.empty)
 
     def test_all_are_there(self):
-        self.assertEqual(len(list(functions())), 23 + 24 + 8 + 30 + 24 + 27 + 21 + 26 + 21)
+        self.assertEqual(len(list(functions())), 23 + 24 + 8 + 30 + 24 + 27 + 21 + 26 + 21 + 19 + 7 + 16 + 4 + 7 + 7)
 
     def test_the_worths_are_not_refused(self):
         """Each call with the worths of this file tells something, or the tests below would hold little."""
@@ -175,6 +233,26 @@ class Interface(unittest.TestCase):
             self.assertEqual(result(function, **dict(zip(names, args))), expected, name)
             self.assertEqual(result(function, **dict(list(zip(names, args))[::-1])), expected, name)
             self.assertEqual(result(function, *args), expected, name)
+
+
+class ClassesOfTheInterface(unittest.TestCase):
+    def test_methods_by_their_names(self):
+        for place, text in CLASSES.items():
+            module, name = place.split(".")
+            kind = getattr(importlib.import_module("giveways." + module), name)
+            self.assertEqual(kind.__module__, "giveways." + module)
+            for part in " ".join(text.split()).split("), "):
+                method, _, names = part.rstrip(")").partition("(")
+                method = "__init__" if method == name else method
+                self.assertIn(method, vars(kind))
+                self.assertEqual(list(inspect.signature(vars(kind)[method]).parameters)[1:], [key for key in names.split(", ") if key])
+            for key in PROPERTIES[place]:
+                self.assertIsInstance(vars(kind)[key], property)
+                self.assertIsNone(vars(kind)[key].fset)
+            self.assertIn("__len__", vars(kind))
+            self.assertIn("__eq__", vars(kind))
+        self.assertIn("__contains__", vars(kind))
+        self.assertIn("__getitem__", vars(kind))
 
 
 class Lists(unittest.TestCase):
@@ -214,7 +292,7 @@ class Lists(unittest.TestCase):
             for module, name, names in functions():
                 if (name in SMALL or module.__name__ == "giveways.orders") and number < 30:
                     continue
-                args = [{**WORTHS, **more, "thing": run}[key] for key in names]
+                args = [{**WORTHS, **OWN.get(name, {}), **more, "thing": run}[key] for key in names]
                 swapped = [arg if key == "thing" else listed(arg) for key, arg in zip(names, args)]
                 function = getattr(module, name)
                 self.assertEqual(repr(result(function, *swapped)), repr(result(function, *args)), name)

@@ -9,17 +9,18 @@ import unittest
 from giveways.errors import HouseError
 
 HERE = pathlib.Path(__file__).resolve().parent
-SECTIONS = {"03": 5, "04": 6, "05": 8, "06": 7, "07": 8, "08": 7, "09": 9, "10": 6}
-MODULES = ("houses", "scripts", "texts", "lanes", "groups", "needs", "clash", "orders", "ends")
+SECTIONS = {"03": 5, "04": 6, "05": 8, "06": 7, "07": 8, "08": 7, "09": 9, "10": 6, "11": 7, "12": 5, "13": 7, "14": 7, "15": 5}
+MODULES = ("houses", "scripts", "texts", "lanes", "groups", "needs", "clash", "orders", "ends", "sides", "watch", "told", "edits",
+           "claims", "board", "desk")
 
 
 def functions():
-    """Every function that stands in a file of the interface."""
+    """Every function and class that stands in a file of the interface."""
     told = {}
     for name in MODULES:
         module = importlib.import_module("giveways." + name)
         told.update({key: worth for key, worth in vars(module).items()
-                     if inspect.isfunction(worth) and worth.__module__ == module.__name__})
+                     if (inspect.isfunction(worth) or inspect.isclass(worth)) and worth.__module__ == module.__name__})
     return told
 
 

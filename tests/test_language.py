@@ -173,13 +173,28 @@ class Language(unittest.TestCase):
 
     def test_each_function_and_class_says_what_it_is_for(self):
         for place, node in self.nodes(ast.FunctionDef, ast.ClassDef, ast.Module):
-            if not isinstance(node, ast.FunctionDef) or node.name != "__init__":
+            if not isinstance(node, ast.FunctionDef) or not node.name.startswith("__"):
                 self.assertTrue(ast.get_docstring(node), place)
 
     def test_interface_functions_stand_in_their_files(self):
         self.assertLessEqual({"begin", "told", "is_fair"}, self.defined["houses"])
         self.assertLessEqual({"is_step", "is_house", "with_room"}, self.defined["scripts"])
         self.assertLessEqual({"HouseError", "Unfit"}, self.defined["errors"])
+        self.assertLessEqual({"Watch", "changed"}, self.defined["watch"])
+        self.assertLessEqual({"Board"}, self.defined["board"])
+
+    def test_tables_at_module_level(self):
+        for name, tree in self.trees.items():
+            above = set()
+            for node in tree.body:
+                if isinstance(node, ast.FunctionDef):
+                    above.add(node.name)
+                if isinstance(node, ast.Assign):
+                    named = {part.id for part in ast.walk(node.value) if isinstance(part, ast.Name)}
+                    self.assertLessEqual(named, above, name)
+                    parts = [part for part in ast.walk(node.value) if part is not node.value]
+                    self.assertFalse([part for part in parts if isinstance(part, (ast.List, ast.Dict))], name)
+                    self.assertFalse([part for part in ast.walk(node.value) if isinstance(part, (ast.BinOp, ast.Starred))], name)
 
 
 class Places(unittest.TestCase):
@@ -240,3 +255,146 @@ class Places(unittest.TestCase):
         for place, node, _ in self.nodes():
             if isinstance(node, ast.Attribute):
                 self.assertNotIn(node.attr, ("keys", "sort", "__class__", "__name__"), place)
+
+
+class Objects(unittest.TestCase):
+    """L5, L7, L18, L19, L28: what a package with __eq__, __len__, __getitem__ and properties may not do anywhere."""
+
+    DUNDERS = {"__init__": None, "__len__": 1, "__eq__": 2, "__contains__": 2, "__getitem__": 2, "__iter__": 1}
+    PLAIN_CALLS = ("tuple", "sorted", "len", "isinstance", "NoHouse", "TypeError")
+
+    @classmethod
+    def setUpClass(cls):
+        cls.texts = {path.stem: path.read_text(encoding="utf-8") for path in sorted(FOLDER.glob("*.py"))}
+        cls.trees = {name: ast.parse(text) for name, text in cls.texts.items()}
+        cls.classes = [(name, node) for name, tree in cls.trees.items() for node in tree.body if isinstance(node, ast.ClassDef)]
+
+    def methods(self):
+        for name, kind in self.classes:
+            for node in kind.body:
+                if isinstance(node, ast.FunctionDef):
+                    yield f"{name}:{node.lineno}", kind, node
+
+    def test_double_underscores_and_properties_change_nothing(self):
+        for place, _, node in self.methods():
+            is_property = [mark.id for mark in node.decorator_list] == ["property"]
+            if node.name.startswith("__"):
+                self.assertIn(node.name, self.DUNDERS, place)
+                self.assertEqual(node.decorator_list, [])
+                many = self.DUNDERS[node.name]
+                self.assertTrue(many is None or len(node.args.args) == many, place)
+            if is_property or node.name in self.DUNDERS and node.name != "__init__":
+                for part in ast.walk(node):
+                    self.assertNotIsInstance(part, (ast.Assign, ast.AugAssign, ast.Delete, ast.For, ast.While), place)
+                    if isinstance(part, ast.Call):
+                        self.assertIn(getattr(part.func, "id", None), self.PLAIN_CALLS, place)
+            if node.name == "__len__":
+                self.assertEqual([type(row) for row in node.body], [ast.Return])
+                self.assertEqual(node.body[0].value.func.id, "len")
+            if node.name == "__iter__":
+                self.assertEqual([type(row) for row in node.body], [ast.Raise])
+
+    def test_one_name_for_one_thing(self):
+        named = {}
+        for _, kind, node in self.methods():
+            key = "property" if node.decorator_list else "method"
+            named.setdefault(node.name, set()).add(key)
+            own = [other.name for other in kind.body if isinstance(other, ast.FunctionDef)]
+            self.assertEqual(len(own), len(set(own)))
+            stored = {part.attr for part in ast.walk(kind) if isinstance(part, ast.Attribute) and isinstance(part.ctx, ast.Store)}
+            self.assertFalse(stored & set(own), kind.name)
+        self.assertFalse([name for name, kinds in named.items() if len(kinds) > 1])
+        stored = {part.attr for _, kind in self.classes for part in ast.walk(kind)
+                  if isinstance(part, ast.Attribute) and isinstance(part.ctx, ast.Store)}
+        self.assertFalse(stored & {name for name, kinds in named.items() if "property" in kinds})
+        self.assertNotIn("keys", set(named) | stored)
+        builtin = {name for kind in (str, int, list, dict, set, bytes, tuple) for name in dir(kind)}
+        self.assertFalse((set(named) - set(self.DUNDERS)) & builtin)
+
+    def test_own_errors_alone_are_caught(self):
+        own = {node.name for node in self.trees["errors"].body if isinstance(node, ast.ClassDef)}
+        for name, tree in self.trees.items():
+            for node in ast.walk(tree):
+                if isinstance(node, ast.ExceptHandler):
+                    self.assertIn(node.type.id, own, name)
+                    self.assertIsNone(node.name, name)
+                if isinstance(node, ast.Try):
+                    self.assertEqual((node.finalbody, node.orelse), ([], []), name)
+
+    def test_no_generators_and_no_sort(self):
+        for name, tree in self.trees.items():
+            for node in ast.walk(tree):
+                self.assertNotIsInstance(node, (ast.GeneratorExp, ast.Yield, ast.YieldFrom, ast.NamedExpr, ast.Match, ast.With), name)
+                if isinstance(node, ast.Set):
+                    self.assertFalse([part for part in node.elts if isinstance(part, ast.Starred)], name)
+                if isinstance(node, ast.Attribute):
+                    self.assertNotIn(node.attr, ("sort", "setdefault"), name)
+                if isinstance(node, ast.Call) and getattr(node.func, "id", None) in ("next", "iter", "map", "frozenset", "bytes"):
+                    self.fail(name)
+
+    def test_words_barred_beside_brackets_behind_objects(self):
+        for name, text in self.texts.items():
+            for word in ("(type)", "Meta", "metaclass="):
+                self.assertNotIn(word, text, name)
+
+    def test_calls_with_stars(self):
+        for name, tree in self.trees.items():
+            for node in ast.walk(tree):
+                if isinstance(node, ast.Call):
+                    for part in node.args:
+                        if isinstance(part, ast.Starred):
+                            self.assertIsInstance(part.value, (ast.Name, ast.Attribute), name)
+                            rest = node.args[node.args.index(part) + 1:]
+                            self.assertTrue(all(isinstance(other, (ast.Name, ast.Constant)) for other in rest), name)
+                    for key in node.keywords:
+                        self.assertIn(key.arg, ("key", "default", "start", "reverse"), name)
+
+    def test_strings_in_braces(self):
+        for name, tree in self.trees.items():
+            for node in ast.walk(tree):
+                if isinstance(node, ast.JoinedStr):
+                    self.assertEqual(node.lineno, node.end_lineno, name)
+                    for part in node.values:
+                        if isinstance(part, ast.FormattedValue):
+                            inner = [other for other in ast.walk(part.value) if isinstance(other, ast.Constant)]
+                            self.assertFalse([other for other in inner if isinstance(other.value, str)], name)
+                        else:
+                            self.assertNotIn("__", part.value, name)
+
+    def test_names_in_comprehensions(self):
+        """A comprehension within another one names nothing that is assigned around it."""
+        kinds = (ast.ListComp, ast.SetComp, ast.DictComp)
+
+        def targets(node):
+            return {part.id for row in node.generators for part in ast.walk(row.target) if isinstance(part, ast.Name)}
+        for name, tree in self.trees.items():
+            for function in [node for node in ast.walk(tree) if isinstance(node, ast.FunctionDef)]:
+                given = {arg.arg for arg in function.args.args}
+                inside = {id(part) for node in ast.walk(function) if isinstance(node, kinds) for part in ast.walk(node)}
+                given |= {part.id for part in ast.walk(function) if isinstance(part, ast.Name) and isinstance(part.ctx, ast.Store)
+                          and id(part) not in inside}
+                for outer in [node for node in ast.walk(function) if isinstance(node, kinds)]:
+                    for inner in [node for node in ast.walk(outer) if isinstance(node, kinds) and node is not outer]:
+                        self.assertFalse(targets(inner) & (given | targets(outer)), (name, function.name))
+
+    def test_lambdas_on_one_line(self):
+        for name, tree in self.trees.items():
+            lines = [node.lineno for node in ast.walk(tree) if isinstance(node, ast.Lambda)]
+            self.assertEqual(len(lines), len(set(lines)), name)
+
+    def test_functions_take_what_they_are_passed(self):
+        """Calls by bare names, without stars: as many arguments as the function or class of the package takes."""
+        taken = {}
+        for tree in self.trees.values():
+            for node in tree.body:
+                if isinstance(node, ast.FunctionDef):
+                    taken.setdefault(node.name, set()).add(len(node.args.args))
+                    self.assertEqual(node.args.defaults, [])
+                if isinstance(node, ast.ClassDef):
+                    starts = [part for part in node.body if isinstance(part, ast.FunctionDef) and part.name == "__init__"]
+                    taken.setdefault(node.name, set()).add(len(starts[0].args.args) - 1 if starts else 0)
+        for name, tree in self.trees.items():
+            for node in ast.walk(tree):
+                if isinstance(node, ast.Call) and isinstance(node.func, ast.Name) and node.func.id in taken:
+                    if not [part for part in node.args if isinstance(part, ast.Starred)]:
+                        self.assertIn(len(node.args) + len(node.keywords), taken[node.func.id], (name, node.func.id))
