@@ -150,7 +150,7 @@ def rounds(house):
 
 def longest_wait(house, choices):
     """The most turns, one behind another, that others took while one task was ready."""
-    return max(waits_by_task(house, choices).values())
+    return max(list(waits_by_task(house, choices).values()))
 
 
 def who_waits(house, choices, many):

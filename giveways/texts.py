@@ -109,7 +109,12 @@ def number_from(text):
         return None
     if text[0] == "0" and text != "0":
         return None
-    return int(text)
+    # Python itself reads no more than some thousands of digits at once.
+    start = len(text) % 18
+    number = int("0" + text[:start])
+    for at in range(start, len(text), 18):
+        number = number * 10 ** 18 + int(text[at:at + 18])
+    return number
 
 
 def name_from(text):

@@ -1,5 +1,6 @@
 """[15] A Board: each deed along many made rows of deeds, against plain rows, and what it tells against all whole runs."""
 
+import copy
 import unittest
 
 from giveways.board import Board
@@ -154,6 +155,7 @@ class Deeds(Refusing, unittest.TestCase):
                 twin, held = board.twin(), dict(plain.rows)
                 error = plain.do(deed, *args)
                 shaped = [listed(arg) for arg in args] if row.below(2) else args
+                handed = copy.deepcopy(shaped)
                 if error is None:
                     self.assertIsNone(getattr(board, deed)(*shaped))
                     self.assertIs(board == twin, {name: tuple(one.values()) for name, one in held.items()}
@@ -166,6 +168,7 @@ class Deeds(Refusing, unittest.TestCase):
                         self.assertEqual(list(vars(caught.exception).values()), [] if error[1] is None else [error[1]])
                     self.assertEqual((board, board.deeds), (twin, twin.deeds))
                 self.hold(board, plain)
+                self.assertEqual(shaped, handed)
                 key = (deed, error[0] if error else "done")
                 seen[key] = seen.get(key, 0) + 1
             while plain.past:

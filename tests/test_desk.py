@@ -38,7 +38,8 @@ CLAIMS = {
     ("late", ("ann", 0)): "late ann 0", ("ahead", ("a", 0), ("b", 1)): "ahead a 0, b 1", ("gets", ("bob", 1), ("ann", 0)):
     "gets bob 1, ann 0", ("clock", 3): "clock 3", ("clock", 0): "clock 0",
 }
-BAD_EDITS = ("", "-", "in", "in a", "in a 0", "in a 0 ", "in a 00 give", "in a -1 give", "in a 0 give ", " in a 0 give", "in  a 0 give",
+BAD_EDITS = ("", "-", "task", "group", "group g", "group g of", "group g of h", "group g of H 0 close g", "group g of h 0 close",
+             "out", "room", "apart", "in", "in a", "in a 0", "in a 0 ", "in a 00 give", "in a -1 give", "in a 0 give ", " in a 0 give", "in  a 0 give",
              "in a 0  give", "in A 0 give", "in a 0 put", "in a 0 give, give", "in a x give", "out a", "out a 0 0", "out a 01", "out  a 0",
              "for a 0", "for a 0 go", "task b", "task b:", "task b: ", "task b : -", "task b:-", "task b in: -", "task b in g by: -",
              "task b in g by a: -", "task b by a 0 in g: -", "task b by a 00: -", "task b in G: -", "task: -", "task : -", "task b c: -",
@@ -49,7 +50,7 @@ BAD_EDITS = ("", "-", "in", "in a", "in a 0", "in a 0 ", "in a 00 give", "in a -
 BAD_CLAIMS = ("", "-", "same ", " same", "same a", "ends", "ends ", "ends a b", "ends A", "fails a", "fails", "fails a ", "fails a v  w",
               "fails a v, w", "fails a V", "takes a", "takes a 00", "takes a 0 0", "takes a 0, b 1", "late", "late a x", "ahead a 0",
               "ahead a 0,b 1", "ahead a 0, b 1, c 2", "ahead a 0 b 1", "ahead a 0, b", "ahead -", "gets a 0, ", "gets", "clock", "clock -1",
-              "clock 03", "clock a", "clock 3 3", "goes a", "same\n", "ends a\n")
+              "clock 03", "clock a", "clock 3 3", "goes a", "goes 3", "ends 3", "clocks 3", "takes", "fails a v w 0", "same\n", "ends a\n")
 
 
 class Written(Refusing, unittest.TestCase):
@@ -84,7 +85,9 @@ class Written(Refusing, unittest.TestCase):
         self.assertEqual(edit_from("task b in g: in"), ("task", "b", "g", (("in",),), ()))
 
     def test_long_numbers(self):
-        number = int("9" * 40)
+        number = int("123456789" * 4 + "0999")
+        self.assertEqual(claim_from("clock " + "1234567890" * 350), ("clock", int("1234567890" * 350)))
+        self.assertEqual(claim_from("clock 1" + "0" * 2000), ("clock", 10 ** 2000))
         for text in (f"clock {number}", f"takes a {number}", f"gets a {number}, b 0"):
             self.assertEqual(claim_text(claim_from(text)), text)
         for text in (f"in a {number} until {number}", f"room q {number}", f"task a by b {number}: -"):
@@ -149,6 +152,16 @@ class Requests(unittest.TestCase):
                 self.assertTrue(is_request(f"{word} x {text}"), text)
             for text in BAD_CLAIMS:
                 self.assertFalse(is_request(f"{word} x {text}"), text)
+
+    def test_of_any_length(self):
+        long = "9" * 6000
+        for line in (f"keep x clock {long}", f"edit x in a {long} until {long}", f"put x room q {long}", f"free x gets a {long}, b 0",
+                     "put x task a: " + ", ".join(["give"] * 5000), "keep x fails a" + " w" * 5000):
+            self.assertTrue(is_request(line))
+            self.assertFalse(is_request(line + " "))
+        self.assertFalse(is_request(f"keep x clock 0{long}"))
+        self.assertFalse(is_request(f"turn x {'a' * 5000}"))
+        self.assertFalse(is_request("names" * 5000))
 
     def test_one_sign_changed(self):
         for line in RIGHT:

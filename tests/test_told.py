@@ -256,6 +256,23 @@ class Accounts(unittest.TestCase):
         self.assertEqual(len(seen), 4)
         self.assertGreater(min(seen.values()), 100)
 
+    def test_what_is_sure_stays_so_with_more_accounts(self):
+        many = 0
+        for house, runs, _ in walked_ends()[:90]:
+            for state in ends_of(runs)[:2]:
+                for cut in range(len(state[1])):
+                    few, more = state[1][:cut], state[1][:cut + 1]
+                    for task in task_names(house):
+                        sure = sure_account(house, few, task)
+                        self.assertIn(sure, (None, sure_account(house, more, task)))
+                        many += sure is not None
+                    for mark in all_marks(house)[::2]:
+                        self.assertIn(was_taken(house, few, mark), ("maybe", was_taken(house, more, mark)))
+                for one, other in list(combinations(all_marks(house), 2))[::4]:
+                    few, more = order_by(house, (), one, other), order_by(house, state[1], one, other)
+                    self.assertTrue(few == "either" or more in (few, "none"))
+        self.assertGreater(many, 200)
+
     def test_accounts_that_only_ends_together_have(self):
         house = LATE[0]
         late, served = told(house, ("bo", "ann", "cy")), told(house, ("ann", "bo"))

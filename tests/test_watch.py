@@ -185,6 +185,13 @@ class Twins(unittest.TestCase):
         short = Watch(house)
         short.take("a")
         self.assertNotEqual(far, short)
+        self.assertNotEqual(short, Watch(house))
+        pair = built({"a": [("give",)], "b": [("give",)]})
+        rows = [Watch(pair), Watch(pair)]
+        rows[0].go(("a", "b"))
+        rows[1].go(("b", "a"))
+        self.assertEqual(rows[0].state, rows[1].state)
+        self.assertNotEqual(rows[0], rows[1])
         self.assertEqual((far.choices, far.state), (short.choices, short.state))
 
     def test_it_copies_what_it_is_given(self):
@@ -197,6 +204,18 @@ class Twins(unittest.TestCase):
         self.assertEqual((watch.house, watch.choices, watch.state), held)
         watch.go(("a", "b"))
         self.assertEqual(watch.ready(), ())
+
+    def test_no_call_changes_what_it_was_handed(self):
+        house, row = listed(built({"a": [("give",)] * 2, "b": [("put", "q")]})), ["a", "b", "a"]
+        held = listed(house)
+        watch = Watch(house)
+        watch.go(row)
+        watch.to(1)
+        with self.assertRaises(NotReady):
+            watch.go(["b", "a", "a"])
+        self.assertEqual((house, row), (held, ["a", "b", "a"]))
+        moments(house, row), held_up(house, row), changed(house, row, 0, "b"), rest_of(house, ["a"], row)
+        self.assertEqual((house, row), (held, ["a", "b", "a"]))
 
     def test_not_iterable_and_no_setters(self):
         watch = Watch(built({"a": [("give",)]}))
